@@ -6,6 +6,7 @@ import (
 
 	"strake/api"
 	"strake/ir"
+	"strake/sample"
 )
 
 func TestArgs(t *testing.T) {
@@ -32,7 +33,7 @@ func TestArgs(t *testing.T) {
 }
 
 func TestArgsOfNoOperation(t *testing.T) {
-	for _, op := range append(edges(), 27, 100, 256, 1<<32+1) {
+	for _, op := range append(sample.Edges(), 27, 100, 256, 1<<32+1) {
 		if op >= api.OpConst && op <= api.OpSet {
 			continue
 		}

@@ -7,6 +7,7 @@ import (
 
 	"strake/api"
 	"strake/ir"
+	"strake/sample"
 )
 
 func wantCheck(t *testing.T, what string, f api.Func, want api.Errno) {
@@ -34,16 +35,16 @@ type turn struct {
 func runTurns(t *testing.T, turns []turn) {
 	t.Helper()
 	for _, turn := range turns {
-		f := rich()
+		f := sample.Rich()
 		turn.change(&f)
 		wantCheck(t, turn.what, f, turn.want)
 	}
 }
 
 func TestCheckOrdinary(t *testing.T) {
-	wantCheck(t, "rich", rich(), api.OK)
-	wantCheck(t, "bare", bare(), api.OK)
-	wantCheck(t, "a parameter is given back", api.Func{Params: []int{api.Bool}, Blocks: []api.Block{{Term: giveBack(0)}}}, api.OK)
+	wantCheck(t, "rich", sample.Rich(), api.OK)
+	wantCheck(t, "bare", sample.Bare(), api.OK)
+	wantCheck(t, "a parameter is given back", api.Func{Params: []int{api.Bool}, Blocks: []api.Block{{Term: sample.Return(0)}}}, api.OK)
 	wantCheck(t, "nothing", api.Func{}, api.ErrForm)
 	wantCheck(t, "no blocks", api.Func{Params: []int{api.Int}, Blocks: []api.Block{}}, api.ErrForm)
 	wantCheck(t, "a block of nothing", api.Func{Blocks: []api.Block{{}}}, api.ErrForm)
@@ -51,15 +52,15 @@ func TestCheckOrdinary(t *testing.T) {
 
 func TestCheckParams(t *testing.T) {
 	for _, n := range []int{0, 1, api.MaxParams - 1, api.MaxParams, api.MaxParams + 1, 100} {
-		f := bare()
+		f := sample.Bare()
 		for i := range n {
 			f.Params = append(f.Params, 1+i%2)
 		}
 		wantCheck(t, fmt.Sprint(n, " parameters"), f, okOnly(n <= 16))
 	}
-	for _, typ := range edges() {
+	for _, typ := range sample.Edges() {
 		for at := range api.MaxParams {
-			f := bare()
+			f := sample.Bare()
 			f.Params = make([]int, api.MaxParams)
 			for i := range f.Params {
 				f.Params[i] = api.Int
@@ -71,11 +72,11 @@ func TestCheckParams(t *testing.T) {
 }
 
 func TestCheckArraysAndCells(t *testing.T) {
-	for _, n := range edges() {
-		f := bare()
+	for _, n := range sample.Edges() {
+		f := sample.Bare()
 		f.Arrays = n
 		wantCheck(t, fmt.Sprint(n, " arrays"), f, okOnly(n >= 0 && n <= 8))
-		f = bare()
+		f = sample.Bare()
 		f.Cells = n
 		wantCheck(t, fmt.Sprint(n, " cells"), f, okOnly(n >= 0 && n <= 64))
 	}
@@ -85,7 +86,7 @@ func TestCheckBlocks(t *testing.T) {
 	for _, n := range []int{1, 2, api.MaxBlocks - 1, api.MaxBlocks, api.MaxBlocks + 1, 5000} {
 		f := api.Func{}
 		for range n {
-			f.Blocks = append(f.Blocks, api.Block{Term: trap(0)})
+			f.Blocks = append(f.Blocks, api.Block{Term: sample.Trap(0)})
 		}
 		wantCheck(t, fmt.Sprint(n, " blocks"), f, okOnly(n <= 512))
 	}
@@ -95,7 +96,7 @@ func TestCheckBlocks(t *testing.T) {
 func heavy(phis, instrs, ends int) api.Func {
 	f, id := api.Func{}, 0
 	for range ends {
-		f.Blocks = append(f.Blocks, api.Block{Term: trap(0)})
+		f.Blocks = append(f.Blocks, api.Block{Term: sample.Trap(0)})
 	}
 	last := &f.Blocks[ends-1]
 	for range phis {
@@ -117,7 +118,7 @@ func TestCheckCode(t *testing.T) {
 		sum := c[0] + c[1] + c[2]
 		wantCheck(t, fmt.Sprint("phis, instructions, ends ", c), heavy(c[0], c[1], c[2]), okOnly(sum <= 4096))
 	}
-	f := bare()
+	f := sample.Bare()
 	for range 4096 {
 		f.Blocks[0].Code = append(f.Blocks[0].Code, api.Instr{Op: api.OpSet, Id: -1, Args: []int{0}})
 	}
@@ -129,8 +130,8 @@ func TestCheckCode(t *testing.T) {
 
 func TestCheckIds(t *testing.T) {
 	for _, params := range []int{0, 1, 2, 16} {
-		for _, id := range append(edges(), params-1, params) {
-			f := api.Func{Blocks: []api.Block{{Term: trap(0)}, {Term: trap(0)}}}
+		for _, id := range append(sample.Edges(), params-1, params) {
+			f := api.Func{Blocks: []api.Block{{Term: sample.Trap(0)}, {Term: sample.Trap(0)}}}
 			for range params {
 				f.Params = append(f.Params, api.Int)
 			}
@@ -156,16 +157,16 @@ func TestCheckIds(t *testing.T) {
 
 func TestCheckPhis(t *testing.T) {
 	phi := func(f *api.Func) *api.Phi { return &f.Blocks[1].Phis[0] }
-	for _, typ := range edges() {
-		f := rich()
+	for _, typ := range sample.Edges() {
+		f := sample.Rich()
 		f.Blocks[6].Phis = []api.Phi{{Id: 26, Type: typ}}
 		wantCheck(t, fmt.Sprint("phi of type ", typ), f, okOnly(typ == 1 || typ == 2))
 	}
-	for _, from := range edges() {
-		f := rich()
+	for _, from := range sample.Edges() {
+		f := sample.Rich()
 		phi(&f).From[1] = from
 		wantCheck(t, fmt.Sprint("phi from ", from), f, okOnly(from > 0 && from < 7))
-		f = rich()
+		f = sample.Rich()
 		phi(&f).From[0] = from
 		wantCheck(t, fmt.Sprint("phi from ", from, " ahead"), f, okOnly(from >= 0 && from < 7 && from != 2))
 	}
@@ -190,7 +191,7 @@ func TestCheckPhiFromTheLastBlock(t *testing.T) {
 	f := api.Func{Params: []int{api.Int}}
 	p := api.Phi{Id: 1, Type: api.Int}
 	for b := range api.MaxBlocks {
-		f.Blocks = append(f.Blocks, api.Block{Term: trap(0)})
+		f.Blocks = append(f.Blocks, api.Block{Term: sample.Trap(0)})
 		p.From, p.Vals = append(p.From, b), append(p.Vals, 0)
 	}
 	f.Blocks[1].Phis = []api.Phi{p}
@@ -219,13 +220,13 @@ func TestCheckOperations(t *testing.T) {
 			wantCheck(t, fmt.Sprint("operation ", r.op, " of ", n), f, want)
 		}
 	}
-	for _, op := range append(edges(), 10, 11, 12, 13, 14, 15, 16, 17, 18, 19, 20, 21, 22, 23) {
+	for _, op := range append(sample.Edges(), 10, 11, 12, 13, 14, 15, 16, 17, 18, 19, 20, 21, 22, 23) {
 		if known[op] {
 			continue
 		}
 		for n := range 4 {
 			for _, id := range []int{-1, 2} {
-				f := bare()
+				f := sample.Bare()
 				f.Params = []int{api.Int, api.Int}
 				f.Blocks[0].Code = []api.Instr{{Op: op, Id: id, Args: make([]int, n)}}
 				wantCheck(t, fmt.Sprint("operation ", op), f, api.ErrForm)
@@ -236,7 +237,7 @@ func TestCheckOperations(t *testing.T) {
 
 func TestCheckN(t *testing.T) {
 	for _, r := range table() {
-		for _, n := range edges() {
+		for _, n := range sample.Edges() {
 			f := single(r)
 			f.Blocks[0].Code[0].N = n
 			good := map[string]bool{"any": true, "flag": n == 0 || n == 1, "none": n == 0, "array": n >= 0 && n < 2, "cell": n >= 0 && n < 3}[r.n]
@@ -256,7 +257,7 @@ func TestCheckIdOfWhatMakesNothing(t *testing.T) {
 		if r.makes != "" {
 			continue
 		}
-		for _, id := range edges() {
+		for _, id := range sample.Edges() {
 			f := single(r)
 			f.Blocks[0].Code[0].Id = id
 			wantCheck(t, fmt.Sprint("operation ", r.op, ", Id ", id), f, okOnly(id == -1))
@@ -300,12 +301,12 @@ func TestCheckEnds(t *testing.T) {
 		end(api.Term{Op: api.Trap, Val: -2}, api.ErrForm),
 		end(api.Term{Op: api.Trap, Val: -1, To: []int{1}}, api.ErrForm),
 	})
-	for _, op := range edges() {
+	for _, op := range sample.Edges() {
 		if op >= api.Jump && op <= api.Trap {
 			continue
 		}
 		for _, to := range [][]int{nil, {1}, {1, 1}} {
-			f := rich()
+			f := sample.Rich()
 			f.Blocks[3].Term = api.Term{Op: op, Val: -1, To: to}
 			wantCheck(t, fmt.Sprint("end ", op, " to ", to), f, api.ErrForm)
 		}
@@ -313,22 +314,22 @@ func TestCheckEnds(t *testing.T) {
 }
 
 func TestCheckWhereEndsGo(t *testing.T) {
-	for _, to := range edges() {
+	for _, to := range sample.Edges() {
 		want := okOnly(to > 0 && to < 7)
 		for at := range 7 {
-			f := rich()
-			f.Blocks[at].Term = jump(to)
+			f := sample.Rich()
+			f.Blocks[at].Term = sample.Jump(to)
 			wantCheck(t, fmt.Sprint("block ", at, " jumps to ", to), f, want)
-			f.Blocks[at].Term = branch(1, to, 2)
+			f.Blocks[at].Term = sample.Branch(1, to, 2)
 			wantCheck(t, fmt.Sprint("block ", at, " branches to ", to, " and 2"), f, want)
-			f.Blocks[at].Term = branch(1, 2, to)
+			f.Blocks[at].Term = sample.Branch(1, 2, to)
 			wantCheck(t, fmt.Sprint("block ", at, " branches to 2 and ", to), f, want)
 		}
 	}
 }
 
 func TestCheckBlockZeroHasNoPhis(t *testing.T) {
-	f := rich()
+	f := sample.Rich()
 	f.Blocks[0].Phis = []api.Phi{{Id: 26, Type: api.Int}}
 	wantCheck(t, "a phi from nowhere in block 0", f, api.ErrForm)
 	f.Blocks[0].Phis = []api.Phi{{Id: 26, Type: api.Int, From: []int{2}, Vals: []int{0}}}
@@ -336,7 +337,7 @@ func TestCheckBlockZeroHasNoPhis(t *testing.T) {
 }
 
 func TestCheckUses(t *testing.T) {
-	for _, id := range append(edges(), 27, 1000) {
+	for _, id := range append(sample.Edges(), 27, 1000) {
 		if id >= 0 && id <= 25 {
 			continue
 		}
@@ -381,7 +382,7 @@ func TestCheckTypes(t *testing.T) {
 		{"parameters the other way round", func(f *api.Func) { f.Params[0], f.Params[1] = 2, 1 }, api.ErrType},
 	})
 	for id := range 26 {
-		f := rich()
+		f := sample.Rich()
 		f.Blocks[4].Term.Val = id
 		wantCheck(t, fmt.Sprint("return of ", id), f, api.OK)
 	}
@@ -394,8 +395,8 @@ func TestCheckMakes(t *testing.T) {
 			continue
 		}
 		f := single(r)
-		f.Blocks[0].Term = branch(2, 1, 1)
-		f.Blocks = append(f.Blocks, api.Block{Term: trap(0)})
+		f.Blocks[0].Term = sample.Branch(2, 1, 1)
+		f.Blocks = append(f.Blocks, api.Block{Term: sample.Trap(0)})
 		want := api.OK
 		if r.makes == "I" {
 			want = api.ErrType

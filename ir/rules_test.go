@@ -1,14 +1,13 @@
 package ir_test
 
 import (
-	"fmt"
 	"math"
-	"reflect"
 	"slices"
 	"testing"
 
 	"strake/api"
 	"strake/ir"
+	"strake/sample"
 )
 
 // askAll makes every call, and holds them against each other: all answer the error of Check.
@@ -46,99 +45,10 @@ func askAll(t *testing.T, what string, f api.Func) {
 	}
 }
 
-// places gathers all numbers and all lists of a function, at all depths.
-func places(v reflect.Value, numbers, lists *[]reflect.Value) {
-	switch v.Kind() {
-	case reflect.Int:
-		*numbers = append(*numbers, v)
-	case reflect.Struct:
-		for i := range v.NumField() {
-			places(v.Field(i), numbers, lists)
-		}
-	case reflect.Slice:
-		*lists = append(*lists, v)
-		for i := range v.Len() {
-			places(v.Index(i), numbers, lists)
-		}
-	}
-}
-
 // TestAnyArgument puts every edge into every number, and leaves out, cuts, doubles and swells every list (R1).
 func TestAnyArgument(t *testing.T) {
 	askAll(t, "nothing", api.Func{})
-	f := rich()
-	var numbers, lists []reflect.Value
-	places(reflect.ValueOf(&f).Elem(), &numbers, &lists)
-	for i, v := range numbers {
-		was := v.Int()
-		for _, n := range edges() {
-			v.SetInt(int64(n))
-			askAll(t, fmt.Sprint("number ", i, " is ", n), f)
-		}
-		v.SetInt(was)
-	}
-	for i, v := range lists {
-		was := reflect.ValueOf(v.Interface())
-		n := was.Len()
-		turns := []reflect.Value{reflect.Zero(v.Type()), reflect.MakeSlice(v.Type(), 0, 0), reflect.AppendSlice(was.Slice3(0, n, n), was), reflect.MakeSlice(v.Type(), 6000, 6000)}
-		if n > 0 {
-			turns = append(turns, was.Slice(1, n), was.Slice(0, n-1))
-		}
-		for k, turned := range turns {
-			v.Set(turned)
-			askAll(t, fmt.Sprint("list ", i, " turned by ", k), f)
-		}
-		v.Set(was)
-	}
-	if !reflect.DeepEqual(f, rich()) {
-		t.Error("the function was not put back")
-	}
-}
-
-// roomy is a list with spare room that holds something; all that a call answers of rich would fit into it.
-func roomy[T any](list []T, spare T) []T {
-	all := append([]T{}, list...)
-	for range 40 {
-		all = append(all, spare)
-	}
-	return all[:len(list)]
-}
-
-// roomyRich has spare room in each of its lists.
-func roomyRich() api.Func {
-	f := rich()
-	for i := range f.Blocks {
-		b := &f.Blocks[i]
-		for k := range b.Phis {
-			b.Phis[k].From, b.Phis[k].Vals = roomy(b.Phis[k].From, 71), roomy(b.Phis[k].Vals, 72)
-		}
-		for k := range b.Code {
-			b.Code[k].Args = roomy(b.Code[k].Args, 73)
-		}
-		b.Phis, b.Code = roomy(b.Phis, api.Phi{Id: 74}), roomy(b.Code, api.Instr{Id: 75})
-		b.Term.To = roomy(b.Term.To, 76)
-	}
-	f.Params, f.Blocks = roomy(f.Params, 77), roomy(f.Blocks, api.Block{Term: trap(78)})
-	return f
-}
-
-// widened shows all that a function's memory holds, spare room included.
-func widened(v reflect.Value) string {
-	switch v.Kind() {
-	case reflect.Struct:
-		s := "{"
-		for i := range v.NumField() {
-			s += widened(v.Field(i)) + " "
-		}
-		return s + "}"
-	case reflect.Slice:
-		s := fmt.Sprint("[", v.Len(), ":")
-		for i := range v.Cap() {
-			s += widened(v.Slice(0, v.Cap()).Index(i)) + " "
-		}
-		return s + "]"
-	}
-	return fmt.Sprint(v.Interface())
+	sample.Turns(sample.Rich(), func(what string, f api.Func) { askAll(t, what, f) })
 }
 
 // TestHandedInStays: no call changes what it is given, spare room of its lists included (R4).
@@ -149,13 +59,13 @@ func TestHandedInStays(t *testing.T) {
 		"no value":     func(f *api.Func) { f.Blocks[6].Term.Val = 99 },
 		"a wrong type": func(f *api.Func) { f.Blocks[3].Term.Val = 0 },
 	} {
-		f := roomyRich()
+		f := sample.Roomy(sample.Rich())
 		change(&f)
-		before := widened(reflect.ValueOf(f))
+		before := sample.Memory(f)
 		askAll(t, what, f)
 		ir.TypeOf(f, 3)
 		ir.Uses(f, 3)
-		if widened(reflect.ValueOf(f)) != before {
+		if sample.Memory(f) != before {
 			t.Errorf("%s: what was handed in is changed", what)
 		}
 	}
@@ -171,13 +81,13 @@ func fill(list []int, n int) {
 
 // TestIdsAreNewMemory: writing over an answer changes neither the function nor another answer (R4).
 func TestIdsAreNewMemory(t *testing.T) {
-	f := roomyRich()
-	before := widened(reflect.ValueOf(f))
+	f := sample.Roomy(sample.Rich())
+	before := sample.Memory(f)
 	first, _ := ir.Ids(f)
 	second, _ := ir.Ids(f)
 	want := slices.Clone(second)
 	fill(first, 12345)
-	if !slices.Equal(second, want) || widened(reflect.ValueOf(f)) != before {
+	if !slices.Equal(second, want) || sample.Memory(f) != before {
 		t.Error("an answer of Ids is shared")
 	}
 	if third, _ := ir.Ids(f); !slices.Equal(third, want) {
@@ -196,19 +106,19 @@ func TestArgsAreNewMemory(t *testing.T) {
 			t.Errorf("Args(%d): an answer is shared", op)
 		}
 	}
-	wantCheck(t, "rich, behind it", rich(), api.OK)
+	wantCheck(t, "rich, behind it", sample.Rich(), api.OK)
 }
 
 // TestNothingIsKept: what was asked ahead does not matter, nor what becomes of a function behind a call (R4, R5).
 func TestNothingIsKept(t *testing.T) {
-	f, bad := rich(), rich()
+	f, bad := sample.Rich(), sample.Rich()
 	bad.Blocks[6].Term.Val = 99
 	for range 3 {
 		askAll(t, "right", f)
 		wantCheck(t, "right", f, api.OK)
 		wantCheck(t, "wrong", bad, api.ErrUse)
-		wantCheck(t, "bare", bare(), api.OK)
-		if ids, e := ir.Ids(bare()); len(ids) != 0 || e != api.OK {
+		wantCheck(t, "bare", sample.Bare(), api.OK)
+		if ids, e := ir.Ids(sample.Bare()); len(ids) != 0 || e != api.OK {
 			t.Errorf("Ids of bare: %v, %d", ids, e)
 		}
 	}

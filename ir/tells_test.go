@@ -6,6 +6,7 @@ import (
 
 	"strake/api"
 	"strake/ir"
+	"strake/sample"
 )
 
 func TestIds(t *testing.T) {
@@ -13,16 +14,16 @@ func TestIds(t *testing.T) {
 	for id := range 26 {
 		all = append(all, id)
 	}
-	if ids, e := ir.Ids(rich()); e != api.OK || !slices.Equal(ids, all) {
+	if ids, e := ir.Ids(sample.Rich()); e != api.OK || !slices.Equal(ids, all) {
 		t.Errorf("Ids of rich: %v, %d", ids, e)
 	}
-	if ids, e := ir.Ids(bare()); e != api.OK || len(ids) != 0 {
+	if ids, e := ir.Ids(sample.Bare()); e != api.OK || len(ids) != 0 {
 		t.Errorf("Ids of bare: %v, %d", ids, e)
 	}
 	f := api.Func{Params: []int{api.Bool, api.Int}, Blocks: []api.Block{
-		{Code: []api.Instr{{Op: api.OpConst, Id: 1048575}, {Op: api.OpConst, Id: 700}, {Op: api.OpOut, Id: -1, Args: []int{1}}}, Term: jump(1)},
-		{Phis: []api.Phi{{Id: 5, Type: api.Int, From: []int{0}, Vals: []int{1}}}, Code: []api.Instr{{Op: api.OpFlag, Id: 2}}, Term: trap(0)},
-		{Code: []api.Instr{{Op: api.OpConst, Id: 4}}, Term: trap(0)},
+		{Code: []api.Instr{{Op: api.OpConst, Id: 1048575}, {Op: api.OpConst, Id: 700}, {Op: api.OpOut, Id: -1, Args: []int{1}}}, Term: sample.Jump(1)},
+		{Phis: []api.Phi{{Id: 5, Type: api.Int, From: []int{0}, Vals: []int{1}}}, Code: []api.Instr{{Op: api.OpFlag, Id: 2}}, Term: sample.Trap(0)},
+		{Code: []api.Instr{{Op: api.OpConst, Id: 4}}, Term: sample.Trap(0)},
 	}}
 	if ids, e := ir.Ids(f); e != api.OK || !slices.Equal(ids, []int{0, 1, 2, 4, 5, 700, 1048575}) {
 		t.Errorf("Ids, not in order: %v, %d", ids, e)
@@ -30,7 +31,7 @@ func TestIds(t *testing.T) {
 }
 
 func TestTypeOf(t *testing.T) {
-	f := rich()
+	f := sample.Rich()
 	for id := range 26 {
 		want := api.Int
 		if slices.Contains([]int{1, 3, 14, 15, 16, 17, 24}, id) {
@@ -65,16 +66,16 @@ func TestUses(t *testing.T) {
 		24: 2,     // a branch, and given back
 		25: 1,
 	}
-	f := rich()
+	f := sample.Rich()
 	for id := range 26 {
 		if n, e := ir.Uses(f, id); n != want[id] || e != api.OK {
 			t.Errorf("Uses(%d): %d, %d, want %d", id, n, e, want[id])
 		}
 	}
 	p := api.Func{Params: []int{api.Int}, Blocks: []api.Block{
-		{Term: jump(1)},
-		{Phis: []api.Phi{{Id: 1, Type: api.Int, From: []int{0, 1, 2}, Vals: []int{0, 1, 0}}}, Term: jump(1)},
-		{Term: trap(1)},
+		{Term: sample.Jump(1)},
+		{Phis: []api.Phi{{Id: 1, Type: api.Int, From: []int{0, 1, 2}, Vals: []int{0, 1, 0}}}, Term: sample.Jump(1)},
+		{Term: sample.Trap(1)},
 	}}
 	for id, want := range []int{2, 1} {
 		if n, e := ir.Uses(p, id); n != want || e != api.OK {
@@ -90,21 +91,21 @@ func TestUses(t *testing.T) {
 }
 
 func TestNoSuchValue(t *testing.T) {
-	for _, id := range append(edges(), 27) {
+	for _, id := range append(sample.Edges(), 27) {
 		if id >= 0 && id <= 25 {
 			continue
 		}
-		if typ, e := ir.TypeOf(rich(), id); typ != 0 || e != api.ErrNone {
+		if typ, e := ir.TypeOf(sample.Rich(), id); typ != 0 || e != api.ErrNone {
 			t.Errorf("TypeOf(%d): %d, %d", id, typ, e)
 		}
-		if n, e := ir.Uses(rich(), id); n != 0 || e != api.ErrNone {
+		if n, e := ir.Uses(sample.Rich(), id); n != 0 || e != api.ErrNone {
 			t.Errorf("Uses(%d): %d, %d", id, n, e)
 		}
 	}
-	if _, e := ir.TypeOf(bare(), 0); e != api.ErrNone {
+	if _, e := ir.TypeOf(sample.Bare(), 0); e != api.ErrNone {
 		t.Errorf("TypeOf where nothing is: %d", e)
 	}
-	if _, e := ir.Uses(bare(), 0); e != api.ErrNone {
+	if _, e := ir.Uses(sample.Bare(), 0); e != api.ErrNone {
 		t.Errorf("Uses where nothing is: %d", e)
 	}
 }
@@ -114,8 +115,8 @@ func TestSize(t *testing.T) {
 		f    api.Func
 		want int
 	}{
-		{bare(), 1},
-		{rich(), 2 + 26 + 7},
+		{sample.Bare(), 1},
+		{sample.Rich(), 2 + 26 + 7},
 		{heavy(0, 0, 512), 512},
 		{heavy(3, 0, 2), 5},
 		{heavy(0, 3, 2), 5},
@@ -137,7 +138,7 @@ func TestTellsErrors(t *testing.T) {
 		{func(f *api.Func) { f.Blocks[6].Term.Val = 99 }, api.ErrUse},
 		{func(f *api.Func) { f.Blocks[3].Term.Val = 0 }, api.ErrType},
 	} {
-		f := rich()
+		f := sample.Rich()
 		c.change(&f)
 		wantCheck(t, "a fault", f, c.want)
 		for _, id := range []int{-1, 0, 5, 99} {
