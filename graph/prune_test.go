@@ -19,12 +19,12 @@ func wantPrune(t *testing.T, what string, f, want api.Func, wantE api.Errno) {
 
 func TestPrune(t *testing.T) {
 	wantPrune(t, "bare", sample.Bare(), sample.Bare(), api.OK)
-	wantPrune(t, "a line", line(api.MaxBlocks), line(api.MaxBlocks), api.OK)
+	wantPrune(t, "a line", sample.Line(api.MaxBlocks), sample.Line(api.MaxBlocks), api.OK)
 	rich := sample.Rich()
 	rich.Blocks = rich.Blocks[:5]
 	wantPrune(t, "rich", sample.Rich(), rich, api.OK)
 	wantPrune(t, "rich, once more", rich, rich, api.OK)
-	wantPrune(t, "cross", cross(t), parse(t,
+	wantPrune(t, "cross", cross(t), sample.Flagged(t,
 		"b0:", "v1 = const 1", "branch v0 b3 b1",
 		"b1:", "v3 = const 3", "branch v0 b2 b2",
 		"b2:", "v4 = phi int b1 v3 b3 v1 b4 v8", "branch v0 b4 b5",
@@ -32,7 +32,7 @@ func TestPrune(t *testing.T) {
 		"b4:", "v8 = add v4 v4", "branch v0 b2 b4",
 		"b5:", "v9 = phi int b2 v4", "return v9",
 	), api.OK)
-	cut := line(api.MaxBlocks)
+	cut := sample.Line(api.MaxBlocks)
 	cut.Blocks[0].Term = sample.Trap(7)
 	wantPrune(t, "a line, cut behind 0", cut, api.Func{Blocks: []api.Block{{Term: sample.Trap(7)}}}, api.OK)
 }
@@ -40,7 +40,7 @@ func TestPrune(t *testing.T) {
 // TestPrunePhis: a phi stays with nothing left, and what comes from a block that is there, but does not go to it, stays.
 func TestPrunePhis(t *testing.T) {
 	wantPrune(t, "phis that lose something",
-		parse(t,
+		sample.Flagged(t,
 			"b0:", "v1 = const 1", "jump b2",
 			"b1:", "v2 = const 2", "jump b4",
 			"b2:", "v3 = phi int b1 v2 b3 v2", "v4 = phi int b3 v1 b1 v2 b4 v1 b2 v5 b0 v3", "v5 = phi int", "jump b4",
@@ -48,7 +48,7 @@ func TestPrunePhis(t *testing.T) {
 			"b4:", "return v5",
 			"b5:", "v9 = phi int b5 v9", "jump b5",
 		),
-		parse(t,
+		sample.Flagged(t,
 			"b0:", "v1 = const 1", "jump b1",
 			"b1:", "v3 = phi int", "v4 = phi int b2 v1 b1 v5 b0 v3", "v5 = phi int", "jump b2",
 			"b2:", "return v5",
@@ -71,20 +71,20 @@ func TestPruneUse(t *testing.T) {
 			{"a phi, from what is gone", []string{"v2 = phi int b1 v1", "return v2"}, api.OK},
 			{"nothing", []string{"return v0"}, api.OK},
 		} {
-			f := parse(t, append([]string{"b0:", "jump b2", "b1:", gone, "jump b1", "b2:"}, c.use...)...)
+			f := sample.Flagged(t, append([]string{"b0:", "jump b2", "b1:", gone, "jump b1", "b2:"}, c.use...)...)
 			got, e := graph.Prune(f)
 			if e != c.want || (e == api.OK) != (len(got.Blocks) == 2) || e != api.OK && !sample.Same(got, api.Func{}) {
 				t.Errorf("%s uses %q: Prune answers %v, %d, want error %d", c.what, gone, got, e, c.want)
 			}
 		}
 	}
-	f := parse(t, "b0:", "branch v0 b2 b2", "b1:", "v1 = flag 1", "jump b1", "b2:", "branch v1 b3 b3", "b3:", "return v0")
+	f := sample.Flagged(t, "b0:", "branch v0 b2 b2", "b1:", "v1 = flag 1", "jump b1", "b2:", "branch v1 b3 b3", "b3:", "return v0")
 	wantPrune(t, "a branch uses it", f, api.Func{}, api.ErrUse)
 }
 
 // TestPruneOfEachGraph makes what is wanted anew, of the blocks that stay.
 func TestPruneOfEachGraph(t *testing.T) {
-	eachGraph(4, func(what string, f api.Func) {
+	sample.EachGraph(4, func(what string, f api.Func) {
 		reach := reachByRounds(f)
 		var was []int
 		now := map[int]int{}

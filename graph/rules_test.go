@@ -30,29 +30,7 @@ func wantErrors(t *testing.T, what string, f api.Func, want api.Errno) {
 
 // TestTellsErrors: each call answers ir.Check's error, ahead of its own.
 func TestTellsErrors(t *testing.T) {
-	wantErrors(t, "nothing", api.Func{}, api.ErrForm)
-	for _, c := range []struct {
-		what   string
-		change func(f *api.Func)
-		want   api.Errno
-	}{
-		{"not formed", func(f *api.Func) { f.Cells = -1 }, api.ErrForm},
-		{"not formed, where nothing comes to", func(f *api.Func) { f.Blocks[5].Term.N = -1 }, api.ErrForm},
-		{"no such block", func(f *api.Func) { f.Blocks[1].Term.To[0] = 7 }, api.ErrForm},
-		{"back to block 0", func(f *api.Func) { f.Blocks[1].Term.To[0] = 0 }, api.ErrForm},
-		{"no such value", func(f *api.Func) { f.Blocks[4].Term.Val = 99 }, api.ErrUse},
-		{"no such value, where nothing comes to", func(f *api.Func) { f.Blocks[6].Term.Val = 99 }, api.ErrUse},
-		{"a wrong type", func(f *api.Func) { f.Blocks[3].Term.Val = 0 }, api.ErrType},
-		{"a wrong type, and a value that would be gone", func(f *api.Func) {
-			f.Blocks[5].Code = []api.Instr{{Op: api.OpConst, Id: 50}}
-			f.Blocks[3].Term.Val = 50
-		}, api.ErrType},
-		{"too many blocks", func(f *api.Func) { f.Blocks = append(f.Blocks, line(api.MaxBlocks).Blocks...) }, api.ErrForm},
-	} {
-		f := sample.Rich()
-		c.change(&f)
-		wantErrors(t, c.what, f, c.want)
-	}
+	sample.Wrong(func(what string, f api.Func, want api.Errno) { wantErrors(t, what, f, want) })
 }
 
 // askAll makes every call, and holds them against each other.
@@ -138,27 +116,6 @@ func TestFunctionsAreNewMemory(t *testing.T) {
 	}
 }
 
-// fill writes over lists, spare room included, and tells whether each was written over alone.
-func fill(lists [][]int) bool {
-	mark := 0
-	for _, list := range lists {
-		list = list[:cap(list)]
-		for i := range list {
-			mark++
-			list[i] = mark
-		}
-	}
-	mark = 0
-	alone := true
-	for _, list := range lists {
-		for _, n := range list[:cap(list)] {
-			mark++
-			alone = alone && n == mark
-		}
-	}
-	return alone
-}
-
 // TestListsAreNewMemory: writing over an answer changes neither the function nor another answer (R4, R5).
 func TestListsAreNewMemory(t *testing.T) {
 	f := sample.Roomy(cross(t))
@@ -167,7 +124,7 @@ func TestListsAreNewMemory(t *testing.T) {
 	second, _ := graph.Preds(f)
 	order, _ := graph.Order(f)
 	another, _ := graph.Order(f)
-	if !fill(slices.Concat(first, second, [][]int{order, another})) || sample.Memory(f) != before {
+	if !sample.AloneLists(slices.Concat(first, second, [][]int{order, another})) || sample.Memory(f) != before {
 		t.Error("lists share memory")
 	}
 	clear(first)

@@ -20,7 +20,7 @@ func wantSplit(t *testing.T, what string, f api.Func, from, k int, want api.Func
 
 func TestSplit(t *testing.T) {
 	two := func(first, second, phi1, phi2 string, more ...string) api.Func {
-		return parse(t, append([]string{
+		return sample.Flagged(t, append([]string{
 			"b0:", "v1 = const 1", "v2 = flag 0", "branch v0 " + first,
 			"b1:", "v3 = phi int " + phi1, "v4 = phi bool " + phi2, "branch v4 " + second,
 			"b2:", "v5 = phi int b1 v3", "return v5",
@@ -40,20 +40,20 @@ func TestSplit(t *testing.T) {
 
 // TestSplitTwice: the block in the middle may be split off, too, and what goes on behind an edge that was split.
 func TestSplitTwice(t *testing.T) {
-	f := parse(t, "b0:", "branch v0 b1 b1", "b1:", "v1 = phi bool b0 v0", "return v1")
+	f := sample.Flagged(t, "b0:", "branch v0 b1 b1", "b1:", "v1 = phi bool b0 v0", "return v1")
 	f, _ = graph.Split(f, 0, 1)
-	wantSplit(t, "the one that was left", f, 0, 0, parse(t,
+	wantSplit(t, "the one that was left", f, 0, 0, sample.Flagged(t,
 		"b0:", "branch v0 b3 b2", "b1:", "v1 = phi bool b3 v0 b2 v0", "return v1", "b2:", "jump b1", "b3:", "jump b1"), api.OK)
-	wantSplit(t, "the one that was split", f, 0, 1, parse(t,
+	wantSplit(t, "the one that was split", f, 0, 1, sample.Flagged(t,
 		"b0:", "branch v0 b1 b3", "b1:", "v1 = phi bool b0 v0 b2 v0", "return v1", "b2:", "jump b1", "b3:", "jump b2"), api.OK)
-	wantSplit(t, "the one behind", f, 2, 0, parse(t,
+	wantSplit(t, "the one behind", f, 2, 0, sample.Flagged(t,
 		"b0:", "branch v0 b1 b2", "b1:", "v1 = phi bool b0 v0 b3 v0", "return v1", "b2:", "jump b3", "b3:", "jump b1"), api.OK)
 }
 
 // TestSplitUnreached: whether a block can be come to does not matter.
 func TestSplitUnreached(t *testing.T) {
-	wantSplit(t, "an edge that nothing goes over", parse(t, "b0:", "return v0", "b1:", "v1 = phi bool b1 v0 b0 v0", "jump b1"), 1, 0,
-		parse(t, "b0:", "return v0", "b1:", "v1 = phi bool b2 v0 b0 v0", "jump b2", "b2:", "jump b1"), api.OK)
+	wantSplit(t, "an edge that nothing goes over", sample.Flagged(t, "b0:", "return v0", "b1:", "v1 = phi bool b1 v0 b0 v0", "jump b1"), 1, 0,
+		sample.Flagged(t, "b0:", "return v0", "b1:", "v1 = phi bool b2 v0 b0 v0", "jump b2", "b2:", "jump b1"), api.OK)
 }
 
 func TestSplitNoEdge(t *testing.T) {
@@ -87,11 +87,11 @@ func wantFull(t *testing.T, what string, f api.Func, full bool) {
 
 func TestSplitLimits(t *testing.T) {
 	for _, blocks := range []int{2, 510, 511, 512} {
-		wantFull(t, fmt.Sprint(blocks, " blocks"), line(blocks), blocks == 512)
+		wantFull(t, fmt.Sprint(blocks, " blocks"), sample.Line(blocks), blocks == 512)
 	}
 	for _, size := range []int{4094, 4095, 4096} {
 		for _, blocks := range []int{2, 511, 512} {
-			f := line(blocks)
+			f := sample.Line(blocks)
 			for id := range size - blocks {
 				at := &f.Blocks[1+id%(blocks-1)]
 				if id%3 == 0 {
@@ -107,7 +107,7 @@ func TestSplitLimits(t *testing.T) {
 
 // TestSplitOfEachGraph makes what is wanted anew, of the phis' Froms: they are 3, 2, 1, 0 ahead.
 func TestSplitOfEachGraph(t *testing.T) {
-	eachGraph(4, func(what string, f api.Func) {
+	sample.EachGraph(4, func(what string, f api.Func) {
 		for from := range f.Blocks {
 			for k, to := range f.Blocks[from].Term.To {
 				want := f

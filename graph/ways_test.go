@@ -36,8 +36,8 @@ func TestPreds(t *testing.T) {
 	wantPreds(t, "bare", sample.Bare(), [][]int{{}})
 	wantPreds(t, "rich", sample.Rich(), [][]int{{}, {0, 2}, {1}, {1}, {3}, {}, {}})
 	wantPreds(t, "cross", cross(t), [][]int{{}, {}, {0}, {1, 2, 5, 6}, {7}, {0}, {3, 6}, {4}, {3, 4}})
-	wantPreds(t, "a block goes to itself", parse(t, "b0:", "jump b1", "b1:", "branch v0 b1 b1"), [][]int{{}, {0, 1}})
-	f := line(api.MaxBlocks)
+	wantPreds(t, "a block goes to itself", sample.Flagged(t, "b0:", "jump b1", "b1:", "branch v0 b1 b1"), [][]int{{}, {0, 1}})
+	f := sample.Line(api.MaxBlocks)
 	want := [][]int{{}}
 	for b := range api.MaxBlocks - 1 {
 		want = append(want, []int{b})
@@ -57,8 +57,8 @@ func TestReach(t *testing.T) {
 	wantReach(t, "bare", sample.Bare(), []bool{true})
 	wantReach(t, "rich", sample.Rich(), []bool{true, true, true, true, true, false, false})
 	wantReach(t, "cross", cross(t), []bool{true, false, true, true, false, true, true, false, true})
-	wantReach(t, "backwards", parse(t, "b0:", "jump b3", "b1:", "return v0", "b2:", "jump b1", "b3:", "jump b2", "b4:", "jump b4"), []bool{true, true, true, true, false})
-	f := line(api.MaxBlocks)
+	wantReach(t, "backwards", sample.Flagged(t, "b0:", "jump b3", "b1:", "return v0", "b2:", "jump b1", "b3:", "jump b2", "b4:", "jump b4"), []bool{true, true, true, true, false})
+	f := sample.Line(api.MaxBlocks)
 	want := slices.Repeat([]bool{true}, api.MaxBlocks)
 	wantReach(t, "a line", f, want)
 	for _, cut := range []int{510, 256, 1, 0} {
@@ -74,11 +74,11 @@ func TestOrder(t *testing.T) {
 	wantOrder(t, "bare", sample.Bare(), []int{0})
 	wantOrder(t, "rich", sample.Rich(), []int{0, 1, 3, 4, 2})
 	wantOrder(t, "cross", cross(t), []int{0, 2, 5, 3, 8, 6})
-	wantOrder(t, "a fork", parse(t, "b0:", "branch v0 b1 b2", "b1:", "return v0", "b2:", "return v0"), []int{0, 2, 1})
-	wantOrder(t, "a fork, the other way", parse(t, "b0:", "branch v0 b2 b1", "b1:", "return v0", "b2:", "return v0"), []int{0, 1, 2})
-	wantOrder(t, "two heads", parse(t, "b0:", "branch v0 b1 b2", "b1:", "branch v0 b2 b3", "b2:", "jump b1", "b3:", "return v0"), []int{0, 1, 3, 2})
-	wantOrder(t, "two heads, the other way", parse(t, "b0:", "branch v0 b2 b1", "b1:", "branch v0 b2 b3", "b2:", "jump b1", "b3:", "return v0"), []int{0, 2, 1, 3})
-	f := line(api.MaxBlocks)
+	wantOrder(t, "a fork", sample.Flagged(t, "b0:", "branch v0 b1 b2", "b1:", "return v0", "b2:", "return v0"), []int{0, 2, 1})
+	wantOrder(t, "a fork, the other way", sample.Flagged(t, "b0:", "branch v0 b2 b1", "b1:", "return v0", "b2:", "return v0"), []int{0, 1, 2})
+	wantOrder(t, "two heads", sample.Flagged(t, "b0:", "branch v0 b1 b2", "b1:", "branch v0 b2 b3", "b2:", "jump b1", "b3:", "return v0"), []int{0, 1, 3, 2})
+	wantOrder(t, "two heads, the other way", sample.Flagged(t, "b0:", "branch v0 b2 b1", "b1:", "branch v0 b2 b3", "b2:", "jump b1", "b3:", "return v0"), []int{0, 2, 1, 3})
+	f := sample.Line(api.MaxBlocks)
 	var rising []int
 	for b := range api.MaxBlocks {
 		rising = append(rising, b)
@@ -146,7 +146,7 @@ func orderBySteps(f api.Func) []int {
 // TestWaysOfEachGraph holds the calls against plain ways to tell the same.
 func TestWaysOfEachGraph(t *testing.T) {
 	for blocks := 1; blocks <= 4; blocks++ {
-		eachGraph(blocks, func(what string, f api.Func) {
+		sample.EachGraph(blocks, func(what string, f api.Func) {
 			wantPreds(t, what, f, predsByPairs(f))
 			wantReach(t, what, f, reachByRounds(f))
 			wantOrder(t, what, f, orderBySteps(f))

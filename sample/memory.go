@@ -134,3 +134,24 @@ func Roomy(f api.Func) api.Func {
 	}
 	return f
 }
+
+// AloneLists tells whether no two of these lists share memory, spare room included. It writes over them.
+func AloneLists(lists [][]int) bool {
+	mark := 0
+	for _, list := range lists {
+		list = list[:cap(list)]
+		for i := range list {
+			mark++
+			list[i] = mark
+		}
+	}
+	mark = 0
+	alone := true
+	for _, list := range lists {
+		for _, n := range list[:cap(list)] {
+			mark++
+			alone = alone && n == mark
+		}
+	}
+	return alone
+}

@@ -1,6 +1,8 @@
 package sample_test
 
 import (
+	"fmt"
+	"strings"
 	"testing"
 
 	"strake/api"
@@ -65,5 +67,83 @@ func TestApart(t *testing.T) {
 		if sample.Apart(f, g) {
 			t.Errorf("sharing %d is not seen", i)
 		}
+	}
+}
+
+func TestWrong(t *testing.T) {
+	seen := map[api.Errno]bool{}
+	sample.Wrong(func(what string, f api.Func, want api.Errno) {
+		seen[want] = true
+		if e := ir.Check(f); e != want || e == api.OK {
+			t.Errorf("%s: error %d, want %d", what, e, want)
+		}
+	})
+	if len(seen) != 3 {
+		t.Errorf("the errors are %v", seen)
+	}
+}
+
+func TestAloneLists(t *testing.T) {
+	roomy := func() []int { return make([]int, 2, 9) }
+	a, b := roomy(), roomy()
+	if !sample.AloneLists([][]int{a, nil, b, roomy(), {}}) {
+		t.Error("what shares nothing is not alone")
+	}
+	for i, shared := range [][]int{a, a[1:], a[2:2], a[2:5]} {
+		if sample.AloneLists([][]int{a, b, shared}) {
+			t.Errorf("sharing %d is not seen", i)
+		}
+	}
+}
+
+func TestLine(t *testing.T) {
+	for _, blocks := range []int{1, 2, 3, api.MaxBlocks} {
+		f := sample.Line(blocks)
+		if e := ir.Check(f); e != api.OK || len(f.Blocks) != blocks {
+			t.Errorf("a line of %d blocks: %d, error %d", blocks, len(f.Blocks), e)
+		}
+		for b := range blocks - 1 {
+			if to := f.Blocks[b].Term.To; len(to) != 1 || to[0] != b+1 {
+				t.Errorf("a line of %d blocks: block %d goes to %v", blocks, b, to)
+			}
+		}
+	}
+}
+
+func TestEachGraph(t *testing.T) {
+	for blocks, want := range map[int]int{1: 1, 2: 9, 3: 343, 4: 28561} {
+		n, seen := 0, map[string]bool{}
+		sample.EachGraph(blocks, func(what string, f api.Func) {
+			n++
+			seen[what] = true
+			if e := ir.Check(f); e != api.OK {
+				t.Fatalf("%s: error %d", what, e)
+			}
+		})
+		if n != want || len(seen) != want {
+			t.Errorf("%d graphs of %d blocks, %d of them told apart, want %d", n, blocks, len(seen), want)
+		}
+	}
+}
+
+// failer writes down why a test would give up.
+type failer struct{ why []string }
+
+func (*failer) Helper() {}
+
+func (f *failer) Fatalf(format string, args ...any) {
+	f.why = append(f.why, fmt.Sprintf(format, args...))
+}
+
+func TestFlagged(t *testing.T) {
+	var test failer
+	got := sample.Flagged(&test, "b0:", "branch v0 b1 b1", "b1:", "return v0")
+	want := api.Func{Params: []int{api.Bool}, Blocks: []api.Block{{Term: sample.Branch(0, 1, 1)}, {Term: sample.Return(0)}}}
+	if !sample.Same(got, want) || len(test.why) != 0 {
+		t.Errorf("Flagged reads %v, and says %q", got, test.why)
+	}
+	sample.Flagged(&test, "b0:", "branch v0 b1 b1", "b1:", "back v0")
+	if len(test.why) != 1 || !strings.Contains(test.why[0], "line 5") {
+		t.Errorf("Flagged says %q of a line at fault", test.why)
 	}
 }

@@ -1,0 +1,69 @@
+package sample
+
+import (
+	"strconv"
+
+	"strake/api"
+)
+
+// Line is a way of so many blocks that goes from each to the next.
+func Line(blocks int) api.Func {
+	f := api.Func{}
+	for b := range blocks - 1 {
+		f.Blocks = append(f.Blocks, api.Block{Term: Jump(b + 1)})
+	}
+	f.Blocks = append(f.Blocks, api.Block{Term: Trap(0)})
+	return f
+}
+
+// EachGraph shows see all graphs of so many blocks. Block b makes value 10 + b, and, but for block 0, phi 20 + b, which is
+// v0, a flag, from each block, the last one first, whether that one goes to b or not. What see is given is changed behind it.
+func EachGraph(blocks int, see func(what string, f api.Func)) {
+	f := api.Func{Params: []int{api.Bool}, Blocks: make([]api.Block, blocks)}
+	for b := range f.Blocks {
+		f.Blocks[b].Code = []api.Instr{{Op: api.OpConst, Id: 10 + b, N: b}}
+		if b > 0 {
+			f.Blocks[b].Phis = []api.Phi{phiOfAll(20+b, blocks)}
+		}
+	}
+	all := ends(blocks)
+	var choose func(b int, what string)
+	choose = func(b int, what string) {
+		if b == blocks {
+			see(what, f)
+			return
+		}
+		for _, end := range all {
+			f.Blocks[b].Term = end.Term
+			choose(b+1, what+end.what)
+		}
+	}
+	choose(0, "blocks go to")
+}
+
+func phiOfAll(id, blocks int) api.Phi {
+	p := api.Phi{Id: id, Type: api.Bool}
+	for from := blocks - 1; from >= 0; from-- {
+		p.From, p.Vals = append(p.From, from), append(p.Vals, 0)
+	}
+	return p
+}
+
+// namedEnd is an end, with where it goes to in words.
+type namedEnd struct {
+	api.Term
+	what string
+}
+
+// ends are all ends of blocks, as far as graphs of so many blocks have them.
+func ends(blocks int) []namedEnd {
+	all := []namedEnd{{Return(0), " nothing"}}
+	for to := 1; to < blocks; to++ {
+		what := " " + strconv.Itoa(to)
+		all = append(all, namedEnd{Jump(to), what})
+		for other := 1; other < blocks; other++ {
+			all = append(all, namedEnd{Branch(0, to, other), what + "/" + strconv.Itoa(other)})
+		}
+	}
+	return all
+}
