@@ -132,7 +132,7 @@ func TestMeetOfMany(t *testing.T) {
 	}
 	sample.EachGraph(3, ask)
 	for seed := range 20 {
-		ask(fmt.Sprint("turned by ", seed), turned(7, seed))
+		ask(fmt.Sprint("seed ", seed), sample.Seeded(7, seed))
 	}
 }
 
@@ -140,13 +140,13 @@ func TestMeetOfMany(t *testing.T) {
 func TestMiddling(t *testing.T) {
 	comes := 0
 	for seed := range 400 {
-		f := turned(5+seed%9, seed)
-		for _, come := range without(f, -1) {
+		f := sample.Seeded(5+seed%9, seed)
+		for _, come := range sample.Without(f, -1) {
 			if come {
 				comes++
 			}
 		}
-		wantPlain(t, fmt.Sprint("turned by ", seed), f)
+		wantPlain(t, fmt.Sprint("seed ", seed), f)
 	}
 	if comes < 1500 {
 		t.Errorf("just %d blocks could be come to", comes)
@@ -162,7 +162,7 @@ func TestGreat(t *testing.T) {
 	back.Blocks[api.MaxBlocks-1].Term = sample.Jump(1)
 	for what, f := range map[string]api.Func{
 		"a line": sample.Line(api.MaxBlocks), "a line that goes back": back, "a ladder": ladder(255),
-		"both ways": bothWays(), "turned": turned(api.MaxBlocks, 7), "turned otherwise": turned(api.MaxBlocks, 8),
+		"both ways": bothWays(), "seed 21": sample.Seeded(api.MaxBlocks, 21), "seed 34": sample.Seeded(api.MaxBlocks, 34),
 	} {
 		p := plainOf(f)
 		wantIdoms(t, what, f, p.idoms())

@@ -2,6 +2,7 @@ package dom_test
 
 import (
 	"strake/api"
+	"strake/sample"
 )
 
 // plain tells dominance by the chapter's words alone: dom[a][b], if a dominates b.
@@ -10,27 +11,12 @@ type plain struct {
 	dom [][]bool
 }
 
-// without: which blocks can be come to by ways that do not go through one block; -1: by all ways.
-func without(f api.Func, cut int) []bool {
-	reach := make([]bool, len(f.Blocks))
-	open := []int{0}
-	for len(open) > 0 {
-		b := open[len(open)-1]
-		open = open[:len(open)-1]
-		if b != cut && !reach[b] {
-			reach[b] = true
-			open = append(open, f.Blocks[b].Term.To...)
-		}
-	}
-	return reach
-}
-
 func plainOf(f api.Func) plain {
 	p := plain{f, make([][]bool, len(f.Blocks))}
-	reach := without(f, -1)
+	reach := sample.Without(f, -1)
 	for a := range p.dom {
 		p.dom[a] = make([]bool, len(f.Blocks))
-		rest := without(f, a)
+		rest := sample.Without(f, a)
 		for b := range p.dom[a] {
 			p.dom[a][b] = reach[a] && reach[b] && !rest[b]
 		}

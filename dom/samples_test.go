@@ -55,27 +55,6 @@ func ladder(rungs int) api.Func {
 	return f
 }
 
-// turned is a graph of so many blocks, some of which may not be come to, told by a seed.
-func turned(blocks, seed int) api.Func {
-	f := api.Func{Params: []int{api.Bool}}
-	state := uint32(seed)
-	next := func(below int) int {
-		state = state*1664525 + 1013904223
-		return int(state>>8) % below
-	}
-	for range blocks {
-		end := sample.Branch(0, 1+next(blocks-1), 1+next(blocks-1))
-		switch next(8) {
-		case 0, 1, 2:
-			end = sample.Jump(1 + next(blocks-1))
-		case 3:
-			end = sample.Return(0)
-		}
-		f.Blocks = append(f.Blocks, api.Block{Term: end})
-	}
-	return f
-}
-
 // bothWays: each block goes to the one behind it and the one ahead, and block 0 to both ends.
 func bothWays() api.Func {
 	f := sample.Line(api.MaxBlocks)

@@ -16,6 +16,48 @@ func Line(blocks int) api.Func {
 	return f
 }
 
+// Seeded is a graph of so many blocks, two at least, some of which may not be come to, told by a seed.
+func Seeded(blocks, seed int) api.Func {
+	f := api.Func{Params: []int{api.Bool}}
+	next := Numbering(seed)
+	for range blocks {
+		end := Branch(0, 1+next(blocks-1), 1+next(blocks-1))
+		switch next(8) {
+		case 0, 1, 2:
+			end = Jump(1 + next(blocks-1))
+		case 3:
+			end = Return(0)
+		}
+		f.Blocks = append(f.Blocks, api.Block{Term: end})
+	}
+	return f
+}
+
+// Numbering tells one number after the other, from 0 on and below what is asked for, that follow no plain order: the same
+// ones for the same seed.
+func Numbering(seed int) func(below int) int {
+	state := uint32(seed)
+	return func(below int) int {
+		state = state*1664525 + 1013904223
+		return int(state>>8) % below
+	}
+}
+
+// Without: which blocks can be come to by ways that do not go through one block; -1: by all ways.
+func Without(f api.Func, cut int) []bool {
+	reach := make([]bool, len(f.Blocks))
+	open := []int{0}
+	for len(open) > 0 {
+		b := open[len(open)-1]
+		open = open[:len(open)-1]
+		if b != cut && !reach[b] {
+			reach[b] = true
+			open = append(open, f.Blocks[b].Term.To...)
+		}
+	}
+	return reach
+}
+
 // EachGraph shows see all graphs of so many blocks. Block b makes value 10 + b, and, but for block 0, phi 20 + b, which is
 // v0, a flag, from each block, the last one first, whether that one goes to b or not. What see is given is changed behind it.
 func EachGraph(blocks int, see func(what string, f api.Func)) {

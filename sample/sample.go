@@ -43,6 +43,13 @@ func Rich() api.Func {
 	}}
 }
 
+// Whole is Rich without the blocks that can't be come to: a strict function.
+func Whole() api.Func {
+	f := Rich()
+	f.Blocks = f.Blocks[:5]
+	return f
+}
+
 // Bare is the least function: one block that traps.
 func Bare() api.Func { return api.Func{Blocks: []api.Block{{Term: Trap(0)}}} }
 

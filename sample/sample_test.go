@@ -2,6 +2,7 @@ package sample_test
 
 import (
 	"fmt"
+	"slices"
 	"strings"
 	"testing"
 
@@ -11,7 +12,7 @@ import (
 )
 
 func TestSamplesAreFunctions(t *testing.T) {
-	for i, f := range []api.Func{sample.Rich(), sample.Bare()} {
+	for i, f := range []api.Func{sample.Rich(), sample.Whole(), sample.Bare()} {
 		if e := ir.Check(f); e != api.OK {
 			t.Errorf("sample %d: error %d", i, e)
 		}
@@ -107,6 +108,66 @@ func TestLine(t *testing.T) {
 				t.Errorf("a line of %d blocks: block %d goes to %v", blocks, b, to)
 			}
 		}
+	}
+}
+
+func TestSeeded(t *testing.T) {
+	comes := 0
+	for seed := range 40 {
+		f := sample.Seeded(2+seed, seed)
+		if e := ir.Check(f); e != api.OK || len(f.Blocks) != 2+seed {
+			t.Errorf("seed %d: %d blocks, error %d", seed, len(f.Blocks), e)
+		}
+		if !sample.Same(f, sample.Seeded(2+seed, seed)) || sample.Same(f, sample.Seeded(2+seed, seed+1)) {
+			t.Errorf("seed %d does not tell the graph", seed)
+		}
+		for _, come := range sample.Without(f, -1) {
+			if come {
+				comes++
+			}
+		}
+	}
+	if comes < 300 {
+		t.Errorf("just %d blocks could be come to", comes)
+	}
+}
+
+func TestNumbering(t *testing.T) {
+	next, again, seen := sample.Numbering(5), sample.Numbering(5), map[int]bool{}
+	for range 1000 {
+		n := next(7)
+		if n < 0 || n > 6 || n != again(7) {
+			t.Fatalf("the number is %d", n)
+		}
+		seen[n] = true
+	}
+	if len(seen) != 7 {
+		t.Errorf("the numbers are %v", seen)
+	}
+}
+
+func TestWithout(t *testing.T) {
+	f := sample.Flagged(t, "b0:", "branch v0 b1 b2", "b1:", "jump b3", "b2:", "jump b3", "b3:", "branch v0 b4 b1", "b4:", "trap 0", "b5:", "jump b4")
+	for cut, want := range map[int][]bool{
+		-1: {true, true, true, true, true, false}, 0: {false, false, false, false, false, false},
+		1: {true, false, true, true, true, false}, 3: {true, true, true, false, false, false}, 5: {true, true, true, true, true, false},
+	} {
+		if got := sample.Without(f, cut); !slices.Equal(got, want) {
+			t.Errorf("without %d: %v, want %v", cut, got, want)
+		}
+	}
+}
+
+func TestLoose(t *testing.T) {
+	seen := map[api.Errno]bool{}
+	sample.Loose(func(what string, f api.Func, block int, want api.Errno) {
+		seen[want] = true
+		if e := ir.Check(f); e != api.OK || block < 0 || block >= len(f.Blocks) {
+			t.Errorf("%s: error %d, block %d", what, e, block)
+		}
+	})
+	if len(seen) != 3 {
+		t.Errorf("the errors are %v", seen)
 	}
 }
 
