@@ -9,6 +9,7 @@ import (
 	"strake/api"
 	"strake/ir"
 	"strake/sample"
+	"strake/strict"
 )
 
 func TestSamplesAreFunctions(t *testing.T) {
@@ -206,5 +207,40 @@ func TestFlagged(t *testing.T) {
 	sample.Flagged(&test, "b0:", "branch v0 b1 b1", "b1:", "back v0")
 	if len(test.why) != 1 || !strings.Contains(test.why[0], "line 5") {
 		t.Errorf("Flagged says %q of a line at fault", test.why)
+	}
+}
+
+func TestBusy(t *testing.T) {
+	ops, ends, phis, blocks := map[int]int{}, map[int]int{}, 0, 0
+	for seed := range 600 {
+		most := 2 + seed%99
+		f := sample.Busy(most, seed)
+		if b, e := strict.Check(f); e != api.OK || len(f.Blocks) > most {
+			t.Errorf("seed %d: %d blocks, error %d at %d", seed, len(f.Blocks), e, b)
+		}
+		if !sample.Same(f, sample.Busy(most, seed)) {
+			t.Errorf("seed %d: the function is another one the second time", seed)
+		}
+		blocks = max(blocks, len(f.Blocks))
+		for _, b := range f.Blocks {
+			ends[b.Term.Op]++
+			phis += len(b.Phis)
+			for _, in := range b.Code {
+				ops[in.Op]++
+			}
+		}
+	}
+	for op := api.OpConst; op <= api.OpSet; op++ {
+		if ops[op] < 500 {
+			t.Errorf("just %d operations are %d", ops[op], op)
+		}
+	}
+	for end := api.Jump; end <= api.Trap; end++ {
+		if ends[end] < 100 {
+			t.Errorf("just %d ends are %d", ends[end], end)
+		}
+	}
+	if phis < 3000 || blocks < 50 {
+		t.Errorf("just %d phis, and at most %d blocks", phis, blocks)
 	}
 }
