@@ -39,7 +39,7 @@ func TestNoFuelComesFirst(t *testing.T) {
 		"v2 = fetch 0 v0": {End: api.Wild},
 		"put 0 v0 v0":     {End: api.Wild},
 	} {
-		f := read(t, "func int arrays 1 cells 0", "b0:", "v1 = const 1", line, "return v1")
+		f := sample.Read(t, "func int arrays 1 cells 0", "b0:", "v1 = const 1", line, "return v1")
 		wantRun(t, line, f, api.Input{}, 1, api.Trace{End: api.NoFuel, Arrays: [][]int{nil}, Steps: 1, Visits: []int{1}})
 		want.Arrays, want.Steps, want.Visits = [][]int{nil}, 2, []int{1}
 		wantRun(t, line, f, api.Input{}, 2, want)

@@ -155,7 +155,7 @@ func lists(rs ...api.Trace) [][]int {
 
 // TestAnswersAreNewMemory: no two lists share any, of one answer or of two, however often one list was handed in (R4).
 func TestAnswersAreNewMemory(t *testing.T) {
-	f := read(t, "func int arrays 4 cells 0", "b0:", "out v0", "out v0", "out v0", "v1 = const 1", "store 0 v1 v0", "store 3 v1 v0", "return v1")
+	f := sample.Read(t, "func int arrays 4 cells 0", "b0:", "out v0", "out v0", "out v0", "v1 = const 1", "store 0 v1 v0", "store 3 v1 v0", "return v1")
 	list := make([]int, 4, 9)
 	in := api.Input{Args: []int{6}, Arrays: [][]int{list, list[:2], list[:0], list[1:3]}}
 	first, second := interp.Run(f, in, 99), interp.Run(f, in, 99)
@@ -175,7 +175,7 @@ func TestAnswersAreNewMemory(t *testing.T) {
 // TestNothingIsKept: what was run ahead does not matter, nor what becomes of a function or an answer behind it (R5).
 func TestNothingIsKept(t *testing.T) {
 	f, in := sample.Whole(), wholeInput()
-	cells := read(t, "func arrays 0 cells 1", "b0:", "v0 = get 0", "v1 = const 7", "set 0 v1", "out v0", "return v0")
+	cells := sample.Read(t, "func arrays 0 cells 1", "b0:", "v0 = get 0", "v1 = const 7", "set 0 v1", "out v0", "return v0")
 	want := interp.Run(f, in, 90)
 	for range 3 {
 		wantRun(t, "whole", f, in, 90, want)

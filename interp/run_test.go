@@ -30,10 +30,10 @@ func TestArgs(t *testing.T) {
 		{"int", nil, 0}, {"int", []int{}, 0}, {"int", []int{7}, 7}, {"int", []int{7, 8}, 7}, {"int", []int{math.MinInt}, math.MinInt},
 		{"bool", nil, 0}, {"bool", []int{0}, 0}, {"bool", []int{1}, 1}, {"bool", []int{2}, 1}, {"bool", []int{-1, 0}, 1}, {"bool", []int{math.MinInt}, 1},
 	} {
-		f := read(t, "func "+c.typ+" arrays 0 cells 0", "b0:", "return v0")
+		f := sample.Read(t, "func "+c.typ+" arrays 0 cells 0", "b0:", "return v0")
 		wantRun(t, fmt.Sprint(c.typ, c.args), f, api.Input{Args: c.args}, 1, api.Trace{End: api.Returned, Value: c.want, Steps: 1, Visits: []int{1}})
 	}
-	f := read(t, "func bool int bool arrays 0 cells 0", "b0:", "v3 = const 9", "v4 = select v2 v1 v3", "branch v0 b1 b2", "b1:", "return v4", "b2:", "trap 3")
+	f := sample.Read(t, "func bool int bool arrays 0 cells 0", "b0:", "v3 = const 9", "v4 = select v2 v1 v3", "branch v0 b1 b2", "b1:", "return v4", "b2:", "trap 3")
 	wantRun(t, "flags that are not 0", f, api.Input{Args: []int{-4, 5, 6}}, 9, api.Trace{End: api.Returned, Value: 5, Steps: 4, Visits: []int{1, 1, 0}})
 	wantRun(t, "the last ones missing", f, api.Input{Args: []int{8, 5}}, 9, api.Trace{End: api.Returned, Value: 9, Steps: 4, Visits: []int{1, 1, 0}})
 	wantRun(t, "all missing", f, api.Input{}, 9, api.Trace{End: api.Trapped, Trap: 3, Steps: 4, Visits: []int{1, 0, 1}})
@@ -56,7 +56,7 @@ func TestPhisAtOneTime(t *testing.T) {
 		{"v7 = phi int b0 v2 b1 v5", "v6 = phi int b0 v1 b1 v7", "v5 = phi int b1 v6 b0 v0"},
 	} {
 		lines := append([]string{"func int int int arrays 0 cells 0", "b0:", "v3 = const 1", "v4 = const 4", "jump b1", "b1:", "v8 = phi int b0 v3 b1 v9"}, phis...)
-		f := read(t, append(lines, "v9 = add v8 v3", "out v5", "out v6", "out v7", "v10 = lt v8 v4", "branch v10 b1 b2", "b2:", "return v6")...)
+		f := sample.Read(t, append(lines, "v9 = add v8 v3", "out v5", "out v6", "out v7", "v10 = lt v8 v4", "branch v10 b1 b2", "b2:", "return v6")...)
 		wantRun(t, fmt.Sprint(phis), f, api.Input{Args: []int{10, 20, 30}}, 99, api.Trace{
 			End: api.Returned, Value: 20, Steps: 3 + 4*6 + 1, Visits: []int{1, 4, 1},
 			Out: []int{10, 20, 30, 20, 30, 10, 30, 10, 20, 10, 20, 30},
@@ -65,7 +65,7 @@ func TestPhisAtOneTime(t *testing.T) {
 }
 
 func TestPhisByWhereItWasComeFrom(t *testing.T) {
-	f := read(t, "func bool bool arrays 0 cells 0", "b0:", "v2 = const 2", "branch v0 b1 b2",
+	f := sample.Read(t, "func bool bool arrays 0 cells 0", "b0:", "v2 = const 2", "branch v0 b1 b2",
 		"b1:", "v3 = const 3", "branch v1 b2 b3", "b2:", "v4 = phi int b1 v3 b0 v2", "jump b3",
 		"b3:", "v5 = phi int b2 v4 b1 v2", "return v5")
 	for _, c := range []struct {
@@ -92,7 +92,7 @@ func TestTrapBlocks(t *testing.T) {
 // TestTrapZero: what is told and written ahead of a division by 0 stays, and nothing behind it is done.
 func TestTrapZero(t *testing.T) {
 	for _, op := range []string{"div", "rem"} {
-		f := read(t, "func int int arrays 1 cells 0", "b0:", "out v0", "v2 = "+op+" v0 v1", "out v2", "return v2")
+		f := sample.Read(t, "func int int arrays 1 cells 0", "b0:", "out v0", "v2 = "+op+" v0 v1", "out v2", "return v2")
 		in := api.Input{Args: []int{9, 0}, Arrays: [][]int{{5}}}
 		wantRun(t, op, f, in, 9, api.Trace{End: api.Trapped, Trap: api.TrapZero, Out: []int{9}, Arrays: [][]int{{5}}, Steps: 2, Visits: []int{1}})
 	}
@@ -135,14 +135,14 @@ func wantElement(t *testing.T, array []int, index int) {
 		default:
 			want.End, want.Value, want.Steps = api.Wild, 0, 1
 		}
-		f := read(t, "func int int arrays 2 cells 0", "b0:", line, back)
+		f := sample.Read(t, "func int int arrays 2 cells 0", "b0:", line, back)
 		in := api.Input{Args: []int{index, 7}, Arrays: [][]int{{8}, array}}
 		wantRun(t, fmt.Sprint(line, ", v0 is ", index, ", ", len(array), " elements"), f, in, 2, want)
 	}
 }
 
 func TestChecks(t *testing.T) {
-	f := read(t, "func int arrays 2 cells 0", "b0:", "v1 = const 0", "v2 = const 1", "v3 = load 0 v1", "store 1 v2 v3", "v4 = fetch 1 v2",
+	f := sample.Read(t, "func int arrays 2 cells 0", "b0:", "v1 = const 0", "v2 = const 1", "v3 = load 0 v1", "store 1 v2 v3", "v4 = fetch 1 v2",
 		"put 0 v2 v4", "v5 = len 0", "store 0 v1 v5", "v6 = load 0 v2", "v7 = load 1 v0", "return v7")
 	in := api.Input{Args: []int{1}, Arrays: [][]int{{6, 5, 4}, {3, 2}}}
 	wantRun(t, "to the end", f, in, 99, api.Trace{End: api.Returned, Value: 6, Arrays: [][]int{{3, 6, 4}, {3, 6}}, Steps: 11, Checks: 5, Visits: []int{1}})
@@ -152,7 +152,7 @@ func TestChecks(t *testing.T) {
 }
 
 func TestCells(t *testing.T) {
-	f := read(t, "func int arrays 0 cells 64", "b0:", "v1 = get 63", "out v1", "set 63 v0", "v2 = get 62", "out v2", "v3 = get 0", "out v3",
+	f := sample.Read(t, "func int arrays 0 cells 64", "b0:", "v1 = get 63", "out v1", "set 63 v0", "v2 = get 62", "out v2", "v3 = get 0", "out v3",
 		"v4 = const 3", "set 0 v4", "v5 = get 63", "out v5", "v6 = get 0", "return v6")
 	for range 2 {
 		wantRun(t, "cells", f, api.Input{Args: []int{-8}}, 99, api.Trace{End: api.Returned, Value: 3, Out: []int{0, 0, 0, -8}, Steps: 13, Visits: []int{1}})
@@ -160,7 +160,7 @@ func TestCells(t *testing.T) {
 }
 
 func TestArrays(t *testing.T) {
-	f := read(t, "func int arrays 3 cells 0", "b0:", "v1 = len 0", "v2 = len 1", "v3 = len 2", "out v1", "out v2", "out v3", "trap 0")
+	f := sample.Read(t, "func int arrays 3 cells 0", "b0:", "v1 = len 0", "v2 = len 1", "v3 = len 2", "out v1", "out v2", "out v3", "trap 0")
 	list := make([]int, api.MaxLen+2000)
 	for i := range list {
 		list[i] = i - 9
@@ -177,7 +177,7 @@ func TestArrays(t *testing.T) {
 		wantRun(t, fmt.Sprint("lengths ", out), f, api.Input{Arrays: c.in}, 9, api.Trace{End: api.Trapped, Out: out, Arrays: c.want, Steps: 7, Visits: []int{1}})
 	}
 	one := []int{1, 2, 3}
-	g := read(t, "func int arrays 2 cells 0", "b0:", "v1 = const 0", "store 0 v1 v0", "v2 = load 1 v1", "return v2")
+	g := sample.Read(t, "func int arrays 2 cells 0", "b0:", "v1 = const 0", "store 0 v1 v0", "v2 = load 1 v1", "return v2")
 	in := api.Input{Args: []int{9}, Arrays: [][]int{one, one}}
 	wantRun(t, "one list for two arrays", g, in, 9, api.Trace{End: api.Returned, Value: 1, Arrays: [][]int{{9, 2, 3}, {1, 2, 3}}, Steps: 4, Checks: 2, Visits: []int{1}})
 }
@@ -185,7 +185,7 @@ func TestArrays(t *testing.T) {
 // TestOut tells as many numbers as there may be, and then one more.
 func TestOut(t *testing.T) {
 	lines := []string{"func int arrays 0 cells 0", "b0:", "v1 = const 1", "jump b1", "b1:", "v2 = phi int b0 v0 b1 v3", "out v2", "v3 = add v2 v1"}
-	f := read(t, append(lines, "v4 = const 4096", "v5 = lt v3 v4", "branch v5 b1 b2", "b2:", "return v3")...)
+	f := sample.Read(t, append(lines, "v4 = const 4096", "v5 = lt v3 v4", "branch v5 b1 b2", "b2:", "return v3")...)
 	for first, want := range map[int]api.Trace{
 		1:  {End: api.Returned, Value: 4096, Steps: 2 + 5*4095 + 1, Visits: []int{1, 4095, 1}},
 		0:  {End: api.Returned, Value: 4096, Steps: 2 + 5*4096 + 1, Visits: []int{1, 4096, 1}},

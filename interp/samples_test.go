@@ -2,23 +2,12 @@ package interp_test
 
 import (
 	"slices"
-	"strings"
 	"testing"
 
 	"strake/api"
 	"strake/interp"
-	"strake/text"
+	"strake/sample"
 )
-
-// read makes a function of its lines.
-func read(t *testing.T, lines ...string) api.Func {
-	t.Helper()
-	f, line, e := text.Parse(strings.Join(lines, "\n") + "\n")
-	if e != api.OK {
-		t.Fatalf("error %d at line %d of %q", e, line, lines)
-	}
-	return f
-}
 
 func sameTrace(a, b api.Trace) bool {
 	return a.End == b.End && a.Value == b.Value && a.Trap == b.Trap && a.Steps == b.Steps && a.Checks == b.Checks &&
@@ -56,7 +45,7 @@ func refused() api.Trace { return api.Trace{End: api.Refused} }
 
 // sum adds up the numbers below its parameter.
 func sum(t *testing.T) api.Func {
-	return read(t, "func int arrays 0 cells 0",
+	return sample.Read(t, "func int arrays 0 cells 0",
 		"b0:", "v1 = const 0", "v2 = const 1", "jump b1",
 		"b1:", "v3 = phi int b0 v1 b2 v6", "v4 = phi int b2 v7 b0 v1", "v5 = lt v3 v0", "branch v5 b2 b3",
 		"b2:", "v6 = add v3 v2", "v7 = add v4 v3", "jump b1",
@@ -69,7 +58,7 @@ func forEver(t *testing.T, outs int) api.Func {
 	for range outs {
 		lines = append(lines, "out v2")
 	}
-	return read(t, append(lines, "jump b1")...)
+	return sample.Read(t, append(lines, "jump b1")...)
 }
 
 // inputs are some for functions with the parameters and arrays of sample.Busy.

@@ -197,6 +197,21 @@ func (f *failer) Fatalf(format string, args ...any) {
 	f.why = append(f.why, fmt.Sprintf(format, args...))
 }
 
+func TestRead(t *testing.T) {
+	var test failer
+	got := sample.Read(&test, "func int arrays 1 cells 0", "b0:", "v1 = load 0 v0", "return v1")
+	want := api.Func{Params: []int{api.Int}, Arrays: 1, Blocks: []api.Block{
+		{Code: []api.Instr{{Op: api.OpLoad, Id: 1, Args: []int{0}}}, Term: sample.Return(1)},
+	}}
+	if !sample.Same(got, want) || len(test.why) != 0 {
+		t.Errorf("Read reads %v, and says %q", got, test.why)
+	}
+	sample.Read(&test, "func arrays 0 cells 0", "b0:", "return v0")
+	if len(test.why) != 1 || !strings.Contains(test.why[0], "error 6 at line 0") {
+		t.Errorf("Read says %q of a use at fault", test.why)
+	}
+}
+
 func TestFlagged(t *testing.T) {
 	var test failer
 	got := sample.Flagged(&test, "b0:", "branch v0 b1 b1", "b1:", "return v0")
