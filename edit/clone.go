@@ -3,7 +3,7 @@ package edit
 import (
 	"strake/api"
 	"strake/fresh"
-	"strake/ir"
+	"strake/values"
 )
 
 // checkBlocks asks whether all are blocks ahead of whether one stands twice: a number that is no block's comes ahead.
@@ -33,7 +33,7 @@ type cloner struct {
 func cloned(f api.Func, blocks []int) (api.Func, []int) {
 	g := fresh.Func(f)
 	added := copiesOf(f, blocks)
-	c := cloner{map[int]int{}, renumberValues(added, firstNew(f))}
+	c := cloner{map[int]int{}, renumberValues(added, values.FirstNew(f))}
 	var copies []int
 	for i, b := range blocks {
 		copies = append(copies, len(f.Blocks)+i)
@@ -57,15 +57,6 @@ func copiesOf(f api.Func, blocks []int) []api.Block {
 		all = append(all, f.Blocks[b])
 	}
 	return fresh.Func(api.Func{Blocks: all}).Blocks
-}
-
-// firstNew is one more than the greatest value.
-func firstNew(f api.Func) int {
-	ids, _ := ir.Ids(f)
-	if len(ids) == 0 {
-		return 0
-	}
-	return ids[len(ids)-1] + 1
 }
 
 // turn makes a copy go to copies, and come from copies alone.

@@ -3,6 +3,7 @@ package edit
 import (
 	"strake/api"
 	"strake/fresh"
+	"strake/values"
 )
 
 // noValue is the Id of an instruction that makes nothing.
@@ -21,23 +22,7 @@ func replaced(f api.Func, old, now int) api.Func {
 
 // changeUses changes blocks in place: they must be a copy.
 func changeUses(blocks []api.Block, change func(id int) int) {
-	changeAll := func(ids []int) {
-		for i, id := range ids {
-			ids[i] = change(id)
-		}
-	}
-	for i := range blocks {
-		b := &blocks[i]
-		for _, p := range b.Phis {
-			changeAll(p.Vals)
-		}
-		for _, in := range b.Code {
-			changeAll(in.Args)
-		}
-		if b.Term.Op == api.Branch || b.Term.Op == api.Return {
-			b.Term.Val = change(b.Term.Val)
-		}
-	}
+	values.EachUse(blocks, func(id *int) { *id = change(*id) })
 }
 
 // eachMade shows see the Id of each value that blocks make: of each block of the phis, then of the instructions.

@@ -93,7 +93,7 @@ func TestMoreFuel(t *testing.T) {
 	ended, open := 0, 0
 	for seed := range 150 {
 		f := sample.Busy(2+seed%20, seed)
-		for i, in := range inputs()[:3] {
+		for i, in := range sample.Inputs()[:3] {
 			what := fmt.Sprintf("seed %d, input %d", seed, i)
 			last := interp.Run(f, in, 0)
 			for fuel := 1; fuel < 120; fuel++ {

@@ -4,7 +4,7 @@ import (
 	"slices"
 
 	"strake/api"
-	"strake/ir"
+	"strake/values"
 )
 
 // nowhere is where block 0 is come from.
@@ -24,21 +24,12 @@ type machine struct {
 }
 
 func machineOf(f api.Func, in api.Input, fuel int) *machine {
-	m := &machine{operations: pairs(), blocks: f.Blocks, fuel: fuel, values: make([]int, roomFor(f)), cells: make([]int, f.Cells)}
+	m := &machine{operations: pairs(), blocks: f.Blocks, fuel: fuel, values: make([]int, values.FirstNew(f)), cells: make([]int, f.Cells)}
 	m.Visits = make([]int, len(f.Blocks))
 	m.Arrays = make([][]int, f.Arrays)
 	m.takeArgs(f.Params, in.Args)
 	m.takeArrays(in.Arrays)
 	return m
-}
-
-// roomFor is one more than a function's greatest value.
-func roomFor(f api.Func) int {
-	ids, _ := ir.Ids(f)
-	if len(ids) == 0 {
-		return 0
-	}
-	return ids[len(ids)-1] + 1
 }
 
 func (m *machine) takeArgs(params, args []int) {

@@ -116,7 +116,7 @@ func TestHandedInStays(t *testing.T) {
 	for seed := range 300 {
 		f := sample.Roomy(sample.Busy(2+seed%20, seed))
 		before := sample.Memory(f)
-		for _, in := range append(inputs(), wholeInput()) {
+		for _, in := range append(sample.Inputs(), wholeInput()) {
 			in = roomy(in)
 			was := inputMemory(in)
 			r := interp.Run(f, in, 200)

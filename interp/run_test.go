@@ -220,7 +220,7 @@ func TestBusy(t *testing.T) {
 	seen := map[int]int{}
 	for seed := range 3000 {
 		f := sample.Busy(2+seed%20, seed)
-		for i, in := range inputs() {
+		for i, in := range sample.Inputs() {
 			r := wantPlain(t, fmt.Sprintf("seed %d, input %d", seed, i), f, in, 400)
 			seen[r.End]++
 		}

@@ -60,13 +60,3 @@ func forEver(t *testing.T, outs int) api.Func {
 	}
 	return sample.Read(t, append(lines, "jump b1")...)
 }
-
-// inputs are some for functions with the parameters and arrays of sample.Busy.
-func inputs() []api.Input {
-	return []api.Input{
-		{},
-		{Args: []int{1, 5, -2}, Arrays: [][]int{{1, 2, 3, 4}, {-5, 6, 0, 1 << 62, 9}}},
-		{Args: []int{0, 0, 1}, Arrays: [][]int{{7, 7, 7, 7, 7, 7, 7}, {0, 0, 0}}},
-		{Args: []int{-9, -1 << 63, 3, 4}, Arrays: [][]int{make([]int, api.MaxLen+1), {1, 1, 1, 1}, {2}}},
-	}
-}

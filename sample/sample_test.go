@@ -259,3 +259,29 @@ func TestBusy(t *testing.T) {
 		t.Errorf("just %d phis, and at most %d blocks", phis, blocks)
 	}
 }
+
+func TestCelled(t *testing.T) {
+	gets, sets := 0, 0
+	for seed := range 200 {
+		most := 2 + seed%60
+		f := sample.Celled(most, seed)
+		if b, e := strict.Check(f); e != api.OK || len(f.Blocks) > most || f.Cells != 3 {
+			t.Errorf("seed %d: %d blocks, %d cells, error %d at %d", seed, len(f.Blocks), f.Cells, e, b)
+		}
+		if !sample.Same(f, sample.Celled(most, seed)) {
+			t.Errorf("seed %d: the function is another one the second time", seed)
+		}
+		for _, b := range f.Blocks {
+			for _, in := range b.Code {
+				if in.Op == api.OpGet {
+					gets++
+				} else if in.Op == api.OpSet {
+					sets++
+				}
+			}
+		}
+	}
+	if gets < 2000 || sets < 2000 {
+		t.Errorf("just %d cells are asked for, and %d set", gets, sets)
+	}
+}
