@@ -92,7 +92,7 @@ func wantBuilt(t *testing.T, what string, f api.Func) {
 	wantDoes(t, what, f, g)
 }
 
-// TestBuildMany has all graphs of up to four blocks.
+// TestBuildMany has some of the functions on all graphs of up to four blocks.
 func TestBuildMany(t *testing.T) {
 	n := 0
 	eachCelled(func(what string, f api.Func) {

@@ -133,18 +133,21 @@ func isLowered(t *testing.T, what string, f, g api.Func) {
 	}
 }
 
-// eachCelled shows see functions with all that blocks may do with two cells, on all graphs of three blocks, and on all of
-// four, as far as all their blocks can be come to.
+// eachCelled shows see functions that use two cells in seeded ways, on all graphs of up to four blocks that can all be
+// come to.
 func eachCelled(see func(what string, f api.Func)) {
-	sample.EachGraph(3, func(what string, f api.Func) {
-		for seed := range 60 {
-			seeCelled(fmt.Sprint(what, ", seed ", seed), f, sample.Numbering(seed), see)
-		}
-	})
+	for blocks := 1; blocks <= 3; blocks++ {
+		sample.EachGraph(blocks, func(what string, f api.Func) {
+			for seed := range 60 {
+				seeCelled(fmt.Sprint(what, ", seed ", seed), f, sample.Numbering(seed), see)
+			}
+		})
+	}
 	next := sample.Numbering(5)
 	sample.EachGraph(4, func(what string, f api.Func) { seeCelled(what, f, next, see) })
 }
 
+// seeCelled shows a function on a graph, if all its blocks can be come to.
 func seeCelled(what string, f api.Func, next func(below int) int, see func(what string, f api.Func)) {
 	if g, e := graph.Prune(f); e == api.OK && len(g.Blocks) == len(f.Blocks) {
 		g.Cells = 2
