@@ -152,7 +152,7 @@ func TestMiddling(t *testing.T) {
 		t.Errorf("just %d blocks could be come to", comes)
 	}
 	for rungs := 1; rungs < 12; rungs++ {
-		wantPlain(t, fmt.Sprint(rungs, " rungs"), ladder(rungs))
+		wantPlain(t, fmt.Sprint(rungs, " rungs"), sample.Ladder(rungs))
 	}
 }
 
@@ -161,8 +161,8 @@ func TestGreat(t *testing.T) {
 	back := sample.Line(api.MaxBlocks)
 	back.Blocks[api.MaxBlocks-1].Term = sample.Jump(1)
 	for what, f := range map[string]api.Func{
-		"a line": sample.Line(api.MaxBlocks), "a line that goes back": back, "a ladder": ladder(255),
-		"both ways": bothWays(), "seed 21": sample.Seeded(api.MaxBlocks, 21), "seed 34": sample.Seeded(api.MaxBlocks, 34),
+		"a line": sample.Line(api.MaxBlocks), "a line that goes back": back, "a ladder": sample.Ladder(255),
+		"both ways": sample.BothWays(), "seed 21": sample.Seeded(api.MaxBlocks, 21), "seed 34": sample.Seeded(api.MaxBlocks, 34),
 	} {
 		p := plainOf(f)
 		wantIdoms(t, what, f, p.idoms())

@@ -42,30 +42,6 @@ func twoHeads(t *testing.T) api.Func {
 	)
 }
 
-// ladder: two lines of so many blocks go on side by side, from each block of one there is a way to its neighbour, and
-// from the last block ways go back to both lines.
-func ladder(rungs int) api.Func {
-	f := api.Func{Params: []int{api.Bool}, Blocks: []api.Block{{Term: sample.Branch(0, 1, 2)}}}
-	last := 2*rungs + 1
-	for r := range rungs {
-		next := min(2*r+3, last)
-		f.Blocks = append(f.Blocks, api.Block{Term: sample.Branch(0, next, 2*r+2)}, api.Block{Term: sample.Branch(0, min(next+1, last), 2*r+1)})
-	}
-	f.Blocks = append(f.Blocks, api.Block{Term: sample.Branch(0, last-1, max(last-2, 1))})
-	return f
-}
-
-// bothWays: each block goes to the one behind it and the one ahead, and block 0 to both ends.
-func bothWays() api.Func {
-	f := sample.Line(api.MaxBlocks)
-	f.Params = []int{api.Bool}
-	for b := range f.Blocks {
-		f.Blocks[b].Term = sample.Branch(0, max(b-1, 1), min(b+1, api.MaxBlocks-1))
-	}
-	f.Blocks[0].Term = sample.Branch(0, 1, api.MaxBlocks-1)
-	return f
-}
-
 func wantIdoms(t *testing.T, what string, f api.Func, want []int) {
 	t.Helper()
 	if got, e := dom.Idoms(f); !slices.Equal(got, want) || e != api.OK {

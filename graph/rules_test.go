@@ -79,12 +79,7 @@ func TestAnyArgument(t *testing.T) {
 // TestHandedInStays: no call changes what it is given, spare room of its lists included (R4).
 func TestHandedInStays(t *testing.T) {
 	for what, f := range map[string]api.Func{"rich": sample.Rich(), "cross": cross(t), "nothing": {}} {
-		f = sample.Roomy(f)
-		before := sample.Memory(f)
-		askAll(t, what, f)
-		if sample.Memory(f) != before {
-			t.Errorf("%s: what was handed in is changed", what)
-		}
+		sample.Stays(t, what, f, func(what string, f api.Func) { askAll(t, what, f) })
 	}
 }
 

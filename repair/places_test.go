@@ -134,13 +134,10 @@ func useCells(b *api.Block, in api.Instr) { b.Code = append(b.Code, in) }
 // nested is so many loops one in another; at the head of the innermost a cell is asked for, and set, and it is asked for
 // behind all.
 func nested(loops int) api.Func {
-	f := api.Func{Params: []int{api.Int, api.Bool}, Cells: 1, Blocks: make([]api.Block, 2*loops+2)}
-	for b := range loops + 1 {
-		f.Blocks[b].Term = sample.Jump(b + 1)
-		f.Blocks[loops+1+b].Term = sample.Branch(1, max(loops-b, 1), min(loops+2+b, 2*loops+1))
-	}
+	f := sample.Nested(loops)
+	f.Params, f.Cells = []int{api.Bool, api.Int}, 1
 	useCells(&f.Blocks[loops], api.Instr{Op: api.OpGet, Id: 3})
-	useCells(&f.Blocks[loops], api.Instr{Op: api.OpSet, Id: -1, Args: []int{0}})
+	useCells(&f.Blocks[loops], api.Instr{Op: api.OpSet, Id: -1, Args: []int{1}})
 	useCells(&f.Blocks[2*loops+1], api.Instr{Op: api.OpGet, Id: 2})
 	f.Blocks[2*loops+1].Term = sample.Return(2)
 	return f

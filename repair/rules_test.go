@@ -61,19 +61,7 @@ func askAll(t *testing.T, what string, f api.Func) {
 
 // TestAnyArgument has functions with all that is around a strict one, and around others (R1).
 func TestAnyArgument(t *testing.T) {
-	seen := map[api.Errno]int{}
-	for _, f := range []api.Func{sample.Whole(), sample.Rich(), rounds(t), turns(t)} {
-		sample.Turns(f, func(what string, f api.Func) {
-			_, e := strict.Check(f)
-			seen[e]++
-			askAll(t, what, f)
-		})
-	}
-	for _, e := range []api.Errno{api.OK, api.ErrForm, api.ErrType, api.ErrDead, api.ErrPhi, api.ErrUse} {
-		if seen[e] < 10 {
-			t.Errorf("error %d: just %d functions", e, seen[e])
-		}
-	}
+	sample.AskTurns(t, []api.Func{sample.Whole(), sample.Rich(), rounds(t), turns(t)}, func(what string, f api.Func) { askAll(t, what, f) })
 }
 
 // TestTurnedDoes: what a function does with one thing changed is done by what comes, too.
@@ -101,12 +89,7 @@ func TestTurnedDoes(t *testing.T) {
 // TestHandedInStays: no call changes what it is given, spare room of its lists included (R4).
 func TestHandedInStays(t *testing.T) {
 	ask := func(what string, f api.Func) {
-		f = sample.Roomy(f)
-		before := sample.Memory(f)
-		askAll(t, what, f)
-		if sample.Memory(f) != before {
-			t.Errorf("%s: what was handed in is changed", what)
-		}
+		sample.Stays(t, what, f, func(what string, f api.Func) { askAll(t, what, f) })
 	}
 	ask("nothing", api.Func{})
 	ask("whole", sample.Whole())

@@ -16,6 +16,44 @@ func Line(blocks int) api.Func {
 	return f
 }
 
+// Ladder: two lines of so many blocks go on side by side, from each block of one there is a way to its neighbour, and
+// from the last block ways go back to both lines.
+func Ladder(rungs int) api.Func {
+	f := api.Func{Params: []int{api.Bool}, Blocks: []api.Block{{Term: Branch(0, 1, 2)}}}
+	last := 2*rungs + 1
+	for r := range rungs {
+		next := min(2*r+3, last)
+		f.Blocks = append(f.Blocks, api.Block{Term: Branch(0, next, 2*r+2)}, api.Block{Term: Branch(0, min(next+1, last), 2*r+1)})
+	}
+	f.Blocks = append(f.Blocks, api.Block{Term: Branch(0, last-1, max(last-2, 1))})
+	return f
+}
+
+// BothWays: each block goes to the one behind it and the one ahead, and block 0 to both ends.
+func BothWays() api.Func {
+	f := Line(api.MaxBlocks)
+	f.Params = []int{api.Bool}
+	for b := range f.Blocks {
+		f.Blocks[b].Term = Branch(0, max(b-1, 1), min(b+1, api.MaxBlocks-1))
+	}
+	f.Blocks[0].Term = Branch(0, 1, api.MaxBlocks-1)
+	return f
+}
+
+// Nested is so many loops one in another: behind block 0 come their heads, the outermost first, then the blocks that go
+// back to them, the innermost first, and one behind all.
+func Nested(loops int) api.Func {
+	f := api.Func{Params: []int{api.Bool}}
+	for b := range loops + 1 {
+		f.Blocks = append(f.Blocks, api.Block{Term: Jump(b + 1)})
+	}
+	for head := loops; head > 0; head-- {
+		f.Blocks = append(f.Blocks, api.Block{Term: Branch(0, head, len(f.Blocks)+1)})
+	}
+	f.Blocks = append(f.Blocks, api.Block{Term: Return(0)})
+	return f
+}
+
 // Seeded is a graph of so many blocks, two at least, some of which may not be come to, told by a seed.
 func Seeded(blocks, seed int) api.Func {
 	f := api.Func{Params: []int{api.Bool}}

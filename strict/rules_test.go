@@ -70,12 +70,7 @@ func TestAnyArgument(t *testing.T) {
 // TestHandedInStays: no call changes what it is given, spare room of its lists included (R4).
 func TestHandedInStays(t *testing.T) {
 	ask := func(what string, f api.Func) {
-		f = sample.Roomy(f)
-		before := sample.Memory(f)
-		askAll(t, what, f)
-		if sample.Memory(f) != before {
-			t.Errorf("%s: what was handed in is changed", what)
-		}
+		sample.Stays(t, what, f, func(what string, f api.Func) { askAll(t, what, f) })
 	}
 	ask("nothing", api.Func{})
 	ask("rich", sample.Rich())

@@ -1,0 +1,117 @@
+package loops_test
+
+import (
+	"slices"
+	"testing"
+
+	"strake/api"
+	"strake/graph"
+	"strake/loops"
+	"strake/sample"
+)
+
+// deep has loops on three levels, two side by side, heads that stand behind their loops' blocks, a block that leaves
+// the loops, and a loop with two ways in.
+func deep(t *testing.T) api.Func {
+	t.Helper()
+	return sample.Flagged(t,
+		"b0:", "jump b9",
+		"b1:", "branch v0 b1 b3", // a loop of its own, in that of b3
+		"b2:", "branch v0 b3 b5",
+		"b3:", "branch v0 b1 b2", // a loop, in that of b9
+		"b4:", "jump b10", // leaves all
+		"b5:", "branch v0 b6 b4",
+		"b6:", "branch v0 b7 b8", // a loop with two ways in, in that of b9
+		"b7:", "branch v0 b8 b11",
+		"b8:", "branch v0 b7 b12",
+		"b9:", "jump b3",
+		"b10:", "return v0",
+		"b11:", "branch v0 b11 b9", // a loop of its own, in that of b9
+		"b12:", "jump b9",
+	)
+}
+
+// deepLoops are deep's.
+func deepLoops() []api.Loop {
+	return []api.Loop{
+		{Head: 1, Blocks: []int{1}, Latches: []int{1}, Exits: []int{3}, Parent: 1},
+		{Head: 3, Blocks: []int{1, 2, 3}, Latches: []int{1, 2}, Exits: []int{5}, Parent: 2},
+		{Head: 9, Blocks: []int{1, 2, 3, 5, 6, 7, 8, 9, 11, 12}, Latches: []int{11, 12}, Exits: []int{4}, Parent: -1},
+		{Head: 11, Blocks: []int{11}, Latches: []int{11}, Exits: []int{9}, Parent: 2},
+	}
+}
+
+// alone is a loop that no other one is around.
+func alone(head int, blocks, latches, exits []int) []api.Loop {
+	return []api.Loop{{Head: head, Blocks: blocks, Latches: latches, Exits: exits, Parent: -1}}
+}
+
+// upFrom are so many numbers.
+func upFrom(first, n int) []int {
+	var all []int
+	for i := range n {
+		all = append(all, first+i)
+	}
+	return all
+}
+
+func sameLoop(a, b api.Loop) bool {
+	return a.Head == b.Head && slices.Equal(a.Blocks, b.Blocks) && slices.Equal(a.Latches, b.Latches) &&
+		slices.Equal(a.Exits, b.Exits) && a.Parent == b.Parent
+}
+
+func wantForest(t *testing.T, what string, f api.Func, want []api.Loop, wantE api.Errno) {
+	t.Helper()
+	if got, e := loops.Forest(f); !slices.EqualFunc(got, want, sameLoop) || e != wantE {
+		t.Errorf("%s: Forest answers %v, %d, want %v, %d", what, got, e, want, wantE)
+	}
+}
+
+func wantDepths(t *testing.T, what string, f api.Func, want []int, wantE api.Errno) {
+	t.Helper()
+	if got, e := loops.Depths(f); !slices.Equal(got, want) || e != wantE {
+		t.Errorf("%s: Depths answers %v, %d, want %v, %d", what, got, e, want, wantE)
+	}
+}
+
+func wantOdd(t *testing.T, what string, f api.Func, want []int, wantE api.Errno) {
+	t.Helper()
+	if got, e := loops.Odd(f); !slices.Equal(got, want) || e != wantE {
+		t.Errorf("%s: Odd answers %v, %d, want %v, %d", what, got, e, want, wantE)
+	}
+}
+
+// wantPlain holds all calls against the plain words.
+func wantPlain(t *testing.T, what string, f api.Func) {
+	t.Helper()
+	p := plainOf(f)
+	wantForest(t, what, f, p.forest(), api.OK)
+	wantDepths(t, what, f, p.depths(), api.OK)
+	wantOdd(t, what, f, p.odd(), api.OK)
+}
+
+// eachSmall shows see all graphs of up to four blocks that can all be come to.
+func eachSmall(see func(what string, f api.Func)) {
+	for blocks := 1; blocks <= 4; blocks++ {
+		sample.EachGraph(blocks, func(what string, f api.Func) {
+			g, e := graph.Prune(f)
+			if e != api.OK || len(g.Blocks) < blocks {
+				return
+			}
+			for b := range g.Blocks {
+				g.Blocks[b].Phis = nil
+			}
+			see(what, g)
+		})
+	}
+}
+
+// seeded is a seeded graph's part that can be come to.
+func seeded(t *testing.T, blocks, seed int) api.Func {
+	t.Helper()
+	f, e := graph.Prune(sample.Seeded(blocks, seed))
+	if e != api.OK {
+		t.Fatalf("error %d", e)
+	}
+	return f
+}
