@@ -10,7 +10,6 @@ import (
 	"strake/edit"
 	"strake/ir"
 	"strake/sample"
-	"strake/strict"
 )
 
 // wantErrors asks for an error of all calls, ahead of their own, and for zero values beside it.
@@ -36,15 +35,13 @@ func TestTellsErrors(t *testing.T) {
 // askAll makes every call, and holds the answers against the plain words.
 func askAll(t *testing.T, what string, f api.Func) {
 	t.Helper()
-	defer func() {
-		if r := recover(); r != nil {
-			t.Errorf("%s: panic: %v", what, r)
-		}
-	}()
-	if _, e := strict.Check(f); e != api.OK {
-		wantErrors(t, what, f, e)
-		return
-	}
+	refused := func(e api.Errno) { wantErrors(t, what, f, e) }
+	sample.AskStrict(t, what, f, refused, func() { askStrict(t, what, f) })
+}
+
+// askStrict holds the answers for a strict function against the plain words.
+func askStrict(t *testing.T, what string, f api.Func) {
+	t.Helper()
 	renamed := plainOf(t, f).rename().function(t)
 	wantRename(t, what, f, renamed, api.OK)
 	wantAlike(t, what, f, renamed, true)

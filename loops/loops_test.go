@@ -12,7 +12,7 @@ func TestForest(t *testing.T) {
 	wantForest(t, "bare", sample.Bare(), nil, api.OK)
 	wantForest(t, "a line", sample.Line(api.MaxBlocks), nil, api.OK)
 	wantForest(t, "whole", sample.Whole(), alone(1, []int{1, 2}, []int{2}, []int{3}), api.OK)
-	wantForest(t, "deep", deep(t), deepLoops(), api.OK)
+	wantForest(t, "deep", sample.Deep(t), deepLoops(), api.OK)
 	for _, c := range []struct {
 		what  string
 		lines []string
@@ -64,7 +64,7 @@ func TestDepths(t *testing.T) {
 	wantDepths(t, "bare", sample.Bare(), []int{0}, api.OK)
 	wantDepths(t, "a line", sample.Line(api.MaxBlocks), make([]int, api.MaxBlocks), api.OK)
 	wantDepths(t, "whole", sample.Whole(), []int{0, 1, 1, 0, 0}, api.OK)
-	wantDepths(t, "deep", deep(t), []int{0, 3, 2, 2, 0, 1, 1, 1, 1, 1, 0, 2, 1}, api.OK)
+	wantDepths(t, "deep", sample.Deep(t), []int{0, 3, 2, 2, 0, 1, 1, 1, 1, 1, 0, 2, 1}, api.OK)
 	wantDepths(t, "a loop of two ways in", sample.Flagged(t, "b0:", "branch v0 b1 b2", "b1:", "jump b2", "b2:", "jump b1"), []int{0, 0, 0}, api.OK)
 	wantDepths(t, "two ways back to one head", sample.Flagged(t, "b0:", "jump b1", "b1:", "branch v0 b1 b2", "b2:", "jump b1"), []int{0, 1, 1}, api.OK)
 }
@@ -73,7 +73,7 @@ func TestOdd(t *testing.T) {
 	wantOdd(t, "bare", sample.Bare(), nil, api.OK)
 	wantOdd(t, "a line", sample.Line(api.MaxBlocks), nil, api.OK)
 	wantOdd(t, "whole", sample.Whole(), nil, api.OK)
-	wantOdd(t, "deep", deep(t), []int{7}, api.OK)
+	wantOdd(t, "deep", sample.Deep(t), []int{7}, api.OK)
 	for _, c := range []struct {
 		what  string
 		lines []string
@@ -96,7 +96,7 @@ func TestOdd(t *testing.T) {
 // TestSmall holds all graphs of up to four blocks against the plain words.
 func TestSmall(t *testing.T) {
 	graphs := 0
-	eachSmall(func(what string, f api.Func) {
+	sample.EachSmall(func(what string, f api.Func) {
 		graphs++
 		wantPlain(t, what, f)
 	})
@@ -109,7 +109,7 @@ func TestSmall(t *testing.T) {
 func TestSeeded(t *testing.T) {
 	found, within, odd := 0, 0, 0
 	for seed := range 600 {
-		f := seeded(t, 4+seed%30, seed)
+		f := sample.Reached(t, 4+seed%30, seed)
 		wantPlain(t, fmt.Sprint("seed ", seed), f)
 		p := plainOf(f)
 		for _, l := range p.forest() {
@@ -178,6 +178,6 @@ func TestGreat(t *testing.T) {
 	wantOdd(t, "both ways", both, upFrom(1, last-1), api.OK)
 
 	wantPlain(t, "a ladder", sample.Ladder(255))
-	wantPlain(t, "seed 21", seeded(t, api.MaxBlocks, 21))
-	wantPlain(t, "seed 34", seeded(t, api.MaxBlocks, 34))
+	wantPlain(t, "seed 21", sample.Reached(t, api.MaxBlocks, 21))
+	wantPlain(t, "seed 34", sample.Reached(t, api.MaxBlocks, 34))
 }

@@ -8,7 +8,6 @@ import (
 	"strake/api"
 	"strake/loops"
 	"strake/sample"
-	"strake/strict"
 )
 
 // wantErrors asks for an error of all calls, and for zero values beside it.
@@ -23,7 +22,7 @@ func wantErrors(t *testing.T, what string, f api.Func, want api.Errno) {
 func TestTellsErrors(t *testing.T) {
 	sample.Wrong(func(what string, f api.Func, want api.Errno) { wantErrors(t, what, f, want) })
 	sample.Loose(func(what string, f api.Func, _ int, want api.Errno) { wantErrors(t, what, f, want) })
-	dead := deep(t)
+	dead := sample.Deep(t)
 	dead.Blocks = append(dead.Blocks, api.Block{Term: sample.Jump(13)})
 	wantErrors(t, "a loop that can't be come to", dead, api.ErrDead)
 }
@@ -31,21 +30,13 @@ func TestTellsErrors(t *testing.T) {
 // askAll makes every call, and holds the answers against the plain words.
 func askAll(t *testing.T, what string, f api.Func) {
 	t.Helper()
-	defer func() {
-		if r := recover(); r != nil {
-			t.Errorf("%s: panic: %v", what, r)
-		}
-	}()
-	if _, e := strict.Check(f); e != api.OK {
-		wantErrors(t, what, f, e)
-		return
-	}
-	wantPlain(t, what, f)
+	refused := func(e api.Errno) { wantErrors(t, what, f, e) }
+	sample.AskStrict(t, what, f, refused, func() { wantPlain(t, what, f) })
 }
 
 // TestAnyArgument has functions with all that is around a strict one, and around others (R1).
 func TestAnyArgument(t *testing.T) {
-	sample.AskTurns(t, []api.Func{sample.Whole(), sample.Rich(), deep(t)}, func(what string, f api.Func) { askAll(t, what, f) })
+	sample.AskTurns(t, []api.Func{sample.Whole(), sample.Rich(), sample.Deep(t)}, func(what string, f api.Func) { askAll(t, what, f) })
 }
 
 // TestHandedInStays: no call changes what it is given, spare room of its lists included (R4).
@@ -56,7 +47,7 @@ func TestHandedInStays(t *testing.T) {
 	ask("nothing", api.Func{})
 	ask("whole", sample.Whole())
 	ask("rich", sample.Rich())
-	ask("deep", deep(t))
+	ask("deep", sample.Deep(t))
 	for seed := range 60 {
 		ask(fmt.Sprint("seed ", seed), sample.Busy(2+seed, seed))
 	}
@@ -80,7 +71,7 @@ func listsOf(t *testing.T, f api.Func) [][]int {
 
 // TestAnswersAreNewMemory: writing over an answer changes neither the function nor another answer (R4, R5).
 func TestAnswersAreNewMemory(t *testing.T) {
-	for what, f := range map[string]api.Func{"deep": deep(t), "both ways": sample.BothWays(), "a nest": sample.Nested(20)} {
+	for what, f := range map[string]api.Func{"deep": sample.Deep(t), "both ways": sample.BothWays(), "a nest": sample.Nested(20)} {
 		f = sample.Roomy(f)
 		before := sample.Memory(f)
 		if !sample.AloneLists(slices.Concat(listsOf(t, f), listsOf(t, f))) || sample.Memory(f) != before {
@@ -88,8 +79,8 @@ func TestAnswersAreNewMemory(t *testing.T) {
 		}
 		askAll(t, what+", behind it", f)
 	}
-	first, _ := loops.Forest(deep(t))
-	second, _ := loops.Forest(deep(t))
+	first, _ := loops.Forest(sample.Deep(t))
+	second, _ := loops.Forest(sample.Deep(t))
 	clear(first[:cap(first)])
 	if !slices.EqualFunc(second, deepLoops(), sameLoop) {
 		t.Error("the lists of Forest share memory")
@@ -98,7 +89,7 @@ func TestAnswersAreNewMemory(t *testing.T) {
 
 // TestNothingIsKept: what was asked ahead does not matter, nor what becomes of a function behind a call (R5).
 func TestNothingIsKept(t *testing.T) {
-	f := deep(t)
+	f := sample.Deep(t)
 	for range 3 {
 		wantForest(t, "deep", f, deepLoops(), api.OK)
 		wantErrors(t, "nothing", api.Func{}, api.ErrForm)
@@ -110,7 +101,7 @@ func TestNothingIsKept(t *testing.T) {
 		wantErrors(t, "deep, cut in place", f, api.ErrDead)
 		f.Blocks[9].Term = sample.Jump(3)
 	}
-	if !sample.Same(f, deep(t)) {
+	if !sample.Same(f, sample.Deep(t)) {
 		t.Error("the function is another one")
 	}
 }

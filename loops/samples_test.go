@@ -5,33 +5,10 @@ import (
 	"testing"
 
 	"strake/api"
-	"strake/graph"
 	"strake/loops"
-	"strake/sample"
 )
 
-// deep has loops on three levels, two side by side, heads that stand behind their loops' blocks, a block that leaves
-// the loops, and a loop with two ways in.
-func deep(t *testing.T) api.Func {
-	t.Helper()
-	return sample.Flagged(t,
-		"b0:", "jump b9",
-		"b1:", "branch v0 b1 b3", // a loop of its own, in that of b3
-		"b2:", "branch v0 b3 b5",
-		"b3:", "branch v0 b1 b2", // a loop, in that of b9
-		"b4:", "jump b10", // leaves all
-		"b5:", "branch v0 b6 b4",
-		"b6:", "branch v0 b7 b8", // a loop with two ways in, in that of b9
-		"b7:", "branch v0 b8 b11",
-		"b8:", "branch v0 b7 b12",
-		"b9:", "jump b3",
-		"b10:", "return v0",
-		"b11:", "branch v0 b11 b9", // a loop of its own, in that of b9
-		"b12:", "jump b9",
-	)
-}
-
-// deepLoops are deep's.
+// deepLoops are those of sample.Deep.
 func deepLoops() []api.Loop {
 	return []api.Loop{
 		{Head: 1, Blocks: []int{1}, Latches: []int{1}, Exits: []int{3}, Parent: 1},
@@ -88,30 +65,4 @@ func wantPlain(t *testing.T, what string, f api.Func) {
 	wantForest(t, what, f, p.forest(), api.OK)
 	wantDepths(t, what, f, p.depths(), api.OK)
 	wantOdd(t, what, f, p.odd(), api.OK)
-}
-
-// eachSmall shows see all graphs of up to four blocks that can all be come to.
-func eachSmall(see func(what string, f api.Func)) {
-	for blocks := 1; blocks <= 4; blocks++ {
-		sample.EachGraph(blocks, func(what string, f api.Func) {
-			g, e := graph.Prune(f)
-			if e != api.OK || len(g.Blocks) < blocks {
-				return
-			}
-			for b := range g.Blocks {
-				g.Blocks[b].Phis = nil
-			}
-			see(what, g)
-		})
-	}
-}
-
-// seeded is a seeded graph's part that can be come to.
-func seeded(t *testing.T, blocks, seed int) api.Func {
-	t.Helper()
-	f, e := graph.Prune(sample.Seeded(blocks, seed))
-	if e != api.OK {
-		t.Fatalf("error %d", e)
-	}
-	return f
 }

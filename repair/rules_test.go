@@ -8,7 +8,6 @@ import (
 	"strake/api"
 	"strake/repair"
 	"strake/sample"
-	"strake/strict"
 )
 
 // wantErrors asks for an error of all calls, and for zero values beside it.
@@ -35,15 +34,13 @@ func TestTellsErrors(t *testing.T) {
 // askAll makes every call, and holds the answers against the promises.
 func askAll(t *testing.T, what string, f api.Func) {
 	t.Helper()
-	defer func() {
-		if r := recover(); r != nil {
-			t.Errorf("%s: panic: %v", what, r)
-		}
-	}()
-	if _, e := strict.Check(f); e != api.OK {
-		wantErrors(t, what, f, e)
-		return
-	}
+	refused := func(e api.Errno) { wantErrors(t, what, f, e) }
+	sample.AskStrict(t, what, f, refused, func() { askStrict(t, what, f) })
+}
+
+// askStrict holds the answers for a strict function against the promises.
+func askStrict(t *testing.T, what string, f api.Func) {
+	t.Helper()
 	wantPlaces(t, what, f, plainPlaces(f), api.OK)
 	if g, e := repair.Build(f); e == api.OK {
 		isBuilt(t, what, f, g)

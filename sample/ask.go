@@ -22,6 +22,21 @@ func Stays(t Teller, what string, f api.Func, ask func(what string, f api.Func))
 	}
 }
 
+// AskStrict asks a function as a strict one, or as one that is refused with strict.Check's error, and tells of a panic.
+func AskStrict(t Teller, what string, f api.Func, refused func(e api.Errno), ask func()) {
+	t.Helper()
+	defer func() {
+		if r := recover(); r != nil {
+			t.Errorf("%s: panic: %v", what, r)
+		}
+	}()
+	if _, e := strict.Check(f); e != api.OK {
+		refused(e)
+		return
+	}
+	ask()
+}
+
 // AskTurns asks all that Turns makes of some functions, and tells if there are too few with one of strict.Check's answers.
 func AskTurns(t Teller, fs []api.Func, ask func(what string, f api.Func)) {
 	t.Helper()

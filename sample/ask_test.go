@@ -43,6 +43,35 @@ func TestStays(t *testing.T) {
 	}
 }
 
+func TestAskStrict(t *testing.T) {
+	for _, c := range []struct {
+		what    string
+		f       api.Func
+		refused api.Errno
+		asked   int
+		panics  bool
+		want    faults
+	}{
+		{"a strict one", sample.Whole(), api.OK, 1, false, 0},
+		{"one that is not strict", sample.Rich(), api.ErrDead, 0, false, 0},
+		{"one that is not formed", api.Func{}, api.ErrForm, 0, false, 0},
+		{"a panic of a strict one", sample.Bare(), api.OK, 1, true, 1},
+		{"a panic of one that is refused", api.Func{}, api.ErrForm, 0, true, 1},
+	} {
+		asked, refused, told := 0, api.OK, faults(0)
+		give := func() {
+			if c.panics {
+				panic("it gives up")
+			}
+		}
+		sample.AskStrict(&told, c.what, c.f, func(e api.Errno) { refused = e; give() }, func() { asked++; give() })
+		wantFaults(t, c.what, told, c.want)
+		if asked != c.asked || refused != c.refused {
+			t.Errorf("%s: it is asked %d times, and refused with %d", c.what, asked, refused)
+		}
+	}
+}
+
 func TestAskTurns(t *testing.T) {
 	asked, told := 0, faults(0)
 	ask := func(what string, f api.Func) { asked++ }
