@@ -103,6 +103,19 @@ func walkCode(b, idom int) []api.Instr {
 
 func tell(id int) api.Instr { return api.Instr{Op: api.OpOut, Id: -1, Args: []int{id}} }
 
+// Recalling is the walking function of a graph, but each block tells the sums of all that dominate it again, the closest
+// first, so that values are used far from where they are made.
+func Recalling(ways api.Func) api.Func {
+	f := Walking(ways)
+	idoms, _ := dom.Idoms(ways)
+	for b := range f.Blocks {
+		for d := idoms[b]; d >= 0; d = idoms[d] {
+			f.Blocks[b].Code = append(f.Blocks[b].Code, tell(walkId(d, walkSum)))
+		}
+	}
+	return f
+}
+
 // Walks are inputs for walking functions.
 func Walks() []api.Input {
 	var all []api.Input

@@ -72,6 +72,27 @@ func TestWalkingTells(t *testing.T) {
 	}
 }
 
+// TestRecalling: what is told again are the sums of all that dominate a block.
+func TestRecalling(t *testing.T) {
+	f := sample.Recalling(sample.Flagged(t, "b0:", "jump b1", "b1:", "branch v0 b1 b2", "b2:", "return v0"))
+	r := interp.Run(f, api.Input{Args: []int{0b1010, 7}}, 1000)
+	if want := []int{107, 107, 214, 107, 107, 315, 107, 315, 630, 315, 107}; r.End != api.Returned || r.Value != 630 || !slices.Equal(r.Out, want) {
+		t.Errorf("it tells %v, and ends with %d, value %d", r.Out, r.End, r.Value)
+	}
+	for seed := range 60 {
+		ways := sample.Reached(t, 4+seed, seed)
+		f, g := sample.Walking(ways), sample.Recalling(ways)
+		if b, e := strict.Check(g); e != api.OK {
+			t.Errorf("seed %d: error %d at %d", seed, e, b)
+		}
+		for i, in := range sample.Walks() {
+			if was, is := interp.Run(f, in, 2000), interp.Run(g, in, 20000); was.Value != is.Value || !slices.Equal(was.Visits, is.Visits) {
+				t.Errorf("seed %d, walk %d: it goes elsewhere", seed, i)
+			}
+		}
+	}
+}
+
 func TestEachSmall(t *testing.T) {
 	n, looped := 0, 0
 	sample.EachSmall(func(what string, f api.Func) {

@@ -1,12 +1,14 @@
 package values_test
 
 import (
+	"fmt"
 	"slices"
 	"testing"
 
 	"strake/api"
 	"strake/ir"
 	"strake/sample"
+	"strake/strict"
 	"strake/values"
 )
 
@@ -37,6 +39,47 @@ func TestEachUse(t *testing.T) {
 	wantUses(t, f, []int{10, 12, 13, 10, 12, 11, 13, 15, 11, 16, 11}, -10)
 	if !sample.Same(f, read()) {
 		t.Errorf("more than the uses is changed: %v", f)
+	}
+}
+
+// TestEachUseAt: a use in a phi is one at the end of the block that is come from.
+func TestEachUseAt(t *testing.T) {
+	f := sample.Read(t, "func int bool arrays 1 cells 0",
+		"b0:", "v2 = const 5", "store 0 v0 v2", "branch v1 b1 b2",
+		"b1:", "v4 = phi int b3 v0 b0 v2", "v6 = phi bool b0 v1 b3 v1", "out v4", "jump b3",
+		"b2:", "return v0",
+		"b3:", "branch v1 b4 b1",
+		"b4:", "trap 2")
+	want := [][2]int{{0, 0}, {2, 0}, {1, 0}, {0, 3}, {2, 0}, {1, 0}, {1, 3}, {4, 1}, {0, 2}, {1, 3}}
+	var seen [][2]int
+	values.EachUseAt(f.Blocks, func(id *int, at int) { seen = append(seen, [2]int{*id, at}) })
+	if !slices.Equal(seen, want) {
+		t.Errorf("the uses are %v, want %v", seen, want)
+	}
+}
+
+// wantDefs holds all that is told of values against what layers 1 and 5 tell of them.
+func wantDefs(t *testing.T, what string, f api.Func) {
+	t.Helper()
+	defs := values.Defs(f)
+	ids, _ := ir.Ids(f)
+	if len(defs) != len(ids) {
+		t.Errorf("%s: %d values, want %d", what, len(defs), len(ids))
+	}
+	for _, id := range ids {
+		block, _, _ := strict.DefOf(f, id)
+		typ, _ := ir.TypeOf(f, id)
+		if want := (values.Def{Block: block, Type: typ}); defs[id] != want {
+			t.Errorf("%s: %v is told of %d, want %v", what, defs[id], id, want)
+		}
+	}
+}
+
+func TestDefs(t *testing.T) {
+	wantDefs(t, "rich", sample.Rich())
+	wantDefs(t, "bare", sample.Bare())
+	for seed := range 20 {
+		wantDefs(t, fmt.Sprint("seed ", seed), sample.Busy(2+seed, seed))
 	}
 }
 
