@@ -1,0 +1,51 @@
+package chain
+
+import "math/bits"
+
+// choices is C(n, k) modulo 2^64, as an odd number and how many twos go with it:
+// modulo 2^64 just what is odd can be divided by.
+type choices struct {
+	odd  uint64
+	twos int
+}
+
+// value is a chain's value behind n rounds, n not being below 0.
+func value(c []int, n int) int {
+	sum, ways := 0, choices{odd: 1}
+	for k, number := range c {
+		sum += number * ways.number()
+		if k == n {
+			break // there are no more ways than 0
+		}
+		ways = ways.times(n - k).over(k + 1)
+	}
+	return sum
+}
+
+func (c choices) number() int { return int(c.odd << c.twos) }
+
+// times and over are for numbers above 0.
+func (c choices) times(n int) choices {
+	odd, twos := parts(n)
+	return choices{c.odd * odd, c.twos + twos}
+}
+
+func (c choices) over(n int) choices {
+	odd, twos := parts(n)
+	return choices{c.odd * inverse(odd), c.twos - twos}
+}
+
+// parts are the odd number and the number of twos that make n.
+func parts(n int) (odd uint64, twos int) {
+	twos = bits.TrailingZeros64(uint64(n))
+	return uint64(n) >> twos, twos
+}
+
+// inverse is what an odd number has to be multiplied by to make 1. The number itself does so modulo 8, and each round doubles the bits.
+func inverse(odd uint64) uint64 {
+	x := odd
+	for range 5 {
+		x *= 2 - odd*x
+	}
+	return x
+}
