@@ -1,6 +1,6 @@
 package chain
 
-import "math/bits"
+import "strake/odd"
 
 // choices is C(n, k) modulo 2^64, as an odd number and how many twos go with it:
 // modulo 2^64 just what is odd can be divided by.
@@ -26,26 +26,11 @@ func (c choices) number() int { return int(c.odd << c.twos) }
 
 // times and over are for numbers above 0.
 func (c choices) times(n int) choices {
-	odd, twos := parts(n)
-	return choices{c.odd * odd, c.twos + twos}
+	other, twos := odd.Parts(uint64(n))
+	return choices{c.odd * other, c.twos + twos}
 }
 
 func (c choices) over(n int) choices {
-	odd, twos := parts(n)
-	return choices{c.odd * inverse(odd), c.twos - twos}
-}
-
-// parts are the odd number and the number of twos that make n.
-func parts(n int) (odd uint64, twos int) {
-	twos = bits.TrailingZeros64(uint64(n))
-	return uint64(n) >> twos, twos
-}
-
-// inverse is what an odd number has to be multiplied by to make 1. The number itself does so modulo 8, and each round doubles the bits.
-func inverse(odd uint64) uint64 {
-	x := odd
-	for range 5 {
-		x *= 2 - odd*x
-	}
-	return x
+	other, twos := odd.Parts(uint64(n))
+	return choices{c.odd * odd.Inverse(other), c.twos - twos}
 }
